@@ -1,0 +1,75 @@
+"""The small forms that all modules ask for: numbers, names, letters, vectors."""
+
+from math import isqrt
+
+from truestops.errors import InvalidPrime
+
+GREATEST_PRIME = 65537
+LONGEST_NAME = 8
+SMALL_LETTERS = "abcdefghijklmnopqrstuvwxyz"
+
+
+def is_count(value):
+    # The exact class is asked for because True and False are integers to isinstance.
+    return type(value) is int and value >= 0
+
+
+def is_name(value):
+    if type(value) is not str or not 1 <= len(value) <= LONGEST_NAME:
+        return False
+    return all([sign in SMALL_LETTERS for sign in value])
+
+
+def is_names(value):
+    return type(value) is list and all([is_name(name) for name in value])
+
+
+def is_prime(value):
+    if type(value) is not int or not 2 <= value <= GREATEST_PRIME:
+        return False
+    return all([value % divisor for divisor in range(2, isqrt(value) + 1)])
+
+
+def require_prime(prime):
+    if not is_prime(prime):
+        raise InvalidPrime(prime)
+
+
+def is_number(prime, value):
+    return is_count(value) and value < prime
+
+
+def is_factor(prime, value):
+    return is_number(prime, value) and value > 0
+
+
+def is_vector(prime, value):
+    return type(value) is list and all([is_number(prime, number) for number in value])
+
+
+def is_vector_of(prime, value, length):
+    return is_vector(prime, value) and len(value) == length
+
+
+def is_vectors(prime, value):
+    if type(value) is not list or not all([is_vector(prime, vector) for vector in value]):
+        return False
+    return all([len(vector) == len(value[0]) for vector in value])
+
+
+def is_vectors_of(prime, value, many, length):
+    """Whether a value is a list of just so many vectors, each of this length."""
+    if type(value) is not list or len(value) != many:
+        return False
+    return all([is_vector_of(prime, vector, length) for vector in value])
+
+
+def letter_fits(prime, asking, letter):
+    """Whether any object is a letter that answers an asking, a tuple as runs return it."""
+    if type(letter) is not tuple or len(letter) != 2 or not is_count(letter[1]):
+        return False
+    if asking[0] == "number":
+        return letter[0] == "number" and letter[1] < prime
+    if asking[0] == "choice":
+        return letter[0] == "choice" and letter[1] < asking[1]
+    return False
