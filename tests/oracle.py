@@ -14,18 +14,25 @@ class Deeds:
         self.beats = [[]]
         self.passed = []
         self.body = body
+        # Where it is stirred: what is passed, in which beat, and the stir.
+        self.stirred = None
 
     def worth(self, wanted, sight):
         numbers = [n * (self.numbers[sight[name]] if name else 1) for name, n in wanted.items()]
         return sum(numbers) % self.prime
+
+    def note(self, stop):
+        self.passed.append((stop, dict(sorted(self.numbers.items())), len(self.beats[-1])))
+        if self.stirred and self.stirred[:2] == (stop, len(self.beats) - 1):
+            for holder, amount in self.stirred[2].items():
+                self.numbers[holder] = (self.numbers[holder] + amount) % self.prime
 
     def do_block(self, block, sight, path):
         own, statements = block
         fresh = {name: ".".join(path + (name,)) for name in own}
         self.numbers.update({holder: 0 for holder in fresh.values()})
         for statement in statements:
-            stop = path + (statement[1],)
-            self.passed.append((stop, dict(sorted(self.numbers.items())), len(self.beats[-1])))
+            self.note(path + (statement[1],))
             yield from self.do(statement, {**sight, **fresh}, path)
         for holder in fresh.values():
             del self.numbers[holder]
@@ -44,7 +51,7 @@ class Deeds:
         elif word == "again":
             while (yield ("choice", 2)):
                 yield from self.do_block(parts[0], sight, path)
-                self.passed.append((path + (label,), dict(sorted(self.numbers.items())), len(self.beats[-1])))
+                self.note(path + (label,))
         elif word == "call":
             yield from self.do_call(label, parts, sight, path)
 
@@ -65,7 +72,14 @@ class Deeds:
 
 def carried_out(parts, inputs):
     """The beats, the asking and the stops passed in the last beat; None instead if a letter does not fit."""
+    found = deeds_of(parts, inputs)
+    return None if found is None else (found[0].beats, found[1], found[0].passed)
+
+
+def deeds_of(parts, inputs, stirred=None):
+    """The deeds behind a run, perhaps stirred, and what is asked for; None instead if a letter does not fit."""
     deeds = Deeds(*parts)
+    deeds.stirred = stirred
     run = deeds.do_block(deeds.body, deeds.globals, ())
     asked = next(run, ("end",))
     for word, number in inputs:
@@ -81,7 +95,7 @@ def carried_out(parts, inputs):
             asked = run.send(number)
         except StopIteration:
             asked = ("end",)
-    return deeds.beats, asked, deeds.passed
+    return deeds, asked
 
 
 def by_points(prime, points, inputs):

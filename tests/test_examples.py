@@ -38,17 +38,154 @@ fork = Program(3, [], [], ([], [("pick", "p", [(["t"], [("read", "r", "t")]), ([
 # [[('pass', ('p',), 1), ('pick', [2, 6]), ('live', ['t'], 3), ('pass', ('r',), 4), ('read', 't', 5), ('gone', ['t'], 6), ('pass', ('z',), 7), ('end',)], 6]
 """
 
+ROWS = """
+from truestops.rows import Rows, linked, marks_of, passed_marks, paths_of, run_rows, stands, wants
+twice = {"twice": (0, [("copy", 1, 0), ("add", 0, 1), ("back",)])}
+head = {"main": (1, [("read", 0), ("keep", 0, 0), ("mark", "m", [("s",)]), ("call", "twice", "c"), ("print", 0), ("end",)])}
+echo = linked(5, 2, [twice, head])
+[run_rows(echo, []), run_rows(echo, [("number", 3)]), stands(echo, [("number", 3)]), wants(5, 2, head), list(echo.units())]
+# [([[]], ('number',)), ([[], [1]], ('end',)), (((), 'main', 5), {'#0': 1, '#1': 3, '@0.0': 3}), ['twice'], ['main', 'twice']]
+[paths_of(echo), marks_of(echo), passed_marks(echo, [("number", 3)])]
+# [{(): ['#0', '#1', '@0.0'], ('c',): ['#0', '#1', '@0.0']}, [(('m', ()), [('s',)])], [(('m', ()), {'#0': 3, '#1': 0, '@0.0': 3}, 0)]]
+"""
+
+SPANS = """
+from truestops.programs import Program
+from truestops.rows import Rows
+from truestops.spans import always, always_zero, is_always_zero, is_mixture, kept_at, state_at
+nought, one, round_on, on = ("number", 0), ("number", 1), ("choice", 1), ("choice", 0)
+steps = [("read", "a", "x"), ("again", "b", ([], [("set", "c", "y", {"x": 1, "y": 1})])), ("print", "d", {"y": 1})]
+sums = Program(5, ["x", "y"], [], ([], steps))
+[state_at(sums, ("c",), [("number", 3), round_on, round_on]), state_at(sums, ("d",), [one]), kept_at(sums, ("a",))]
+# [{'x': 3, 'y': 3}, None, [([], {'x': 0, 'y': 0})]]
+[inputs for inputs, state in kept_at(sums, ("b",))] == [[nought], [one], [one, round_on]]
+# True
+[always(sums, ("a",), {"x": 1, "": 3}), always(sums, ("c",), {"x": 2}) == ("breaks", [nought, round_on], [one, round_on]), always_zero(sums, ("a",)), always_zero(sums, ("d",))]
+# [('always', 3), True, [{'x': 1}, {'y': 1}], []]
+plain = Rows(5, 2, {"main": (0, [("read", 0), ("pick", [4, 2]), ("add", 1, 0), ("go", 1), ("mark", "m", [("d",)]), ("print", 1), ("end",)])})
+[state for inputs, state in kept_at(plain, ("m", ()))]
+# [{'#0': 0, '#1': 0}, {'#0': 1, '#1': 0}, {'#0': 1, '#1': 1}]
+[is_mixture(plain, ("m", ()), {"#0": 4, "#1": 2}), is_always_zero(plain, ("m", ()), {"#0": 1})]
+# [True, False]
+"""
+
+ALIKE = """
+from truestops.alike import alike, alike_paper, enough, is_alike_paper, kept_beside, parting_inputs, where_beside
+from truestops.programs import Program
+from truestops.rows import Rows
+deeds = [("read", "a", "x"), ("again", "b", ([], [("set", "c", "y", {"x": 1, "y": 1})])), ("print", "d", {"y": 1})]
+summing = Program(5, ["x", "y"], [], ([], deeds))
+first = [("read", 0), ("pick", [4, 2]), ("add", 1, 0), ("go", 1), ("print", 1), ("end",)]
+good, bad = [Rows(5, 2, {"main": (0, rows)}) for rows in [first, first[:2] + [("copy", 1, 0)] + first[3:]]]
+[alike(summing, good), parting_inputs(summing, good), enough(summing, good), alike_paper(summing, bad)]
+# [True, None, 4, None]
+parting_inputs(summing, bad)
+# [('number', 1), ('choice', 1), ('choice', 1), ('choice', 0)]
+kept_beside(summing, good)[3]
+# ([('number', 1), ('choice', 1)], {'x': 1, 'y': 1}, {'#0': 1, '#1': 1})
+[is_alike_paper(summing, good, alike_paper(summing, good)), is_alike_paper(summing, good, {}), [place for inputs, state, place, state_there in where_beside(summing, good, ("c",))] == [((), "main", 1)] * 3]
+# [True, False, True]
+"""
+
+SEEN = """
+from truestops.programs import Program
+from truestops.seen import idle_stirs, is_idle, is_seen_paper, seen_sums, showing, shown
+lines = [("read", "a", "x"), ("set", "b", "y", {"x": 2}), ("print", "c", {"x": 1, "y": 1})]
+double = Program(5, [], [], (["x", "y"], lines + [("again", "d", ([], [("print", "e", {"y": 1})]))]))
+[shown(double, ("c",), {"x": 1, "y": 4}, [("choice", 1)]), showing(double, ("c",), {"x": 1, "y": 4}), showing(double, ("b",), {"y": 3})]
+# [[0, 4], ([('choice', 1)], 1), None]
+[seen_sums(double, ("b",)), seen_sums(double, ("c",)), idle_stirs(double, ("b",)), idle_stirs(double, ("d",)), is_idle(double, ("d",), {"x": 2})]
+# [[{'x': 1}], [{'x': 1}, {'y': 1}], [{'y': 1}], [{'x': 1}], True]
+[is_seen_paper(double, ("c",), [([], 0), ([("choice", 1)], 1)]), is_seen_paper(double, ("c",), [([], 0)]), shown(double, ("a",), {"x": 1}, [("number", 3)])]
+# [True, False, [0]]
+"""
+
+MAKING = """
+from truestops.benches import Bench
+from truestops.making import are_straight, bare_stops, is_made, made, straight, unread
+from truestops.programs import Program
+from truestops.rows import Rows
+keep = Program(5, ["x"], [], ([], [("read", "a", "x"), ("print", "b", {"x": 2}), ("print", "c", {"x": 1})]))
+rough = Rows(5, 1, {"main": (0, [("mark", "i", [("a",)]), ("read", 0), ("times", 0, 2), ("mark", "j", [("b",)]), ("print", 0), ("times", 0, 3), ("print", 0), ("end",)])})
+[is_made(keep, made(keep)), is_made(keep, rough), bare_stops(Bench(keep, rough)), unread(Bench(keep, rough), ("b",))]
+# [True, False, [('c',)], []]
+[are_straight(5, 2, {"": 1, "@0.1": 3}, [("take", 0, 1), ("times", 0, 3), ("more", 0, 1)]), are_straight(5, 2, {"@0.1": 1}, [("add", 0, 1)])]
+# [True, False]
+"""
+
+REWRITING = """
+from truestops.rewriting import boxes_called, calls_opened, idle_rows, is_idle_left_out, is_tails_joined, lost_stops, parting_passes, passes_alike
+from truestops.rows import Rows
+inner = {"main": (1, [("read", 0), ("call", "d", "c"), ("print", 0), ("end",)]), "d": (0, [("more", 0, 1), ("mark", "m", [("s",)]), ("back",)])}
+calls = Rows(5, 2, inner)
+plain = Rows(5, 2, {"main": (1, [("read", 0), ("copy", 1, 0), ("more", 0, 1), ("mark", "n", [("c", "s")]), ("print", 0), ("end",)])})
+[passes_alike(calls, plain), passes_alike(calls, calls_opened(calls)), idle_rows(plain), idle_rows(calls)]
+# [True, True, [('main', 1)], []]
+less = Rows(5, 2, {"main": (1, [("read", 0), ("more", 0, 1), ("print", 0), ("end",)])})
+[is_idle_left_out(plain, less), is_tails_joined(plain, less), lost_stops(plain, less), parting_passes(plain, less), passes_alike(plain, boxes_called(plain, [1, 0]))]
+# [False, True, [('c', 's')], [('number', 0)], True]
+"""
+
+BENCHES = """
+from truestops.benches import Bench, is_where_point, mark_word, marks, out_of_order, stops_of, where_point, where_rule
+from truestops.programs import Program
+from truestops.rows import Rows
+arms = [([], [("pass", "a")]), ([], [("set", "b", "x", {"x": 2})])]
+doubled = Program(5, ["x"], [], ([], [("read", "r", "x"), ("pick", "k", arms), ("print", "e", {"x": 1})]))
+def made(row, stops):
+    return Rows(5, 2, {"main": (0, [("read", 0), ("pick", [2, 4]), row, ("go", 5), ("times", 0, 2), ("mark", "m", stops), ("print", 0), ("end",)])})
+told, mute, astray = [Bench(doubled, made(row, stops)) for row, stops in [(("set", 1, 1), [("a",), ("b",)]), (("go", 5), [("a",), ("b",)]), (("go", 5), [("a",)])]]
+joined = ("m", ())
+[marks(told), stops_of(told, joined), mark_word(told, joined), mark_word(astray, joined), out_of_order(told)]
+# [[('m', ())], [('a',), ('b',)], ('true', [('number', 0), ('choice', 0)]), ('stray', [('number', 0), ('choice', 1)]), None]
+[where_rule(told, joined, ("a",)), where_rule(told, joined, ("b",)), where_point(told, joined, ("a",)), where_rule(mute, joined, ("a",))]
+# [{'#1': 1}, {'': 1, '#1': 4}, None, None]
+[is_where_point(mute, joined, ("a",), ([([("number", 4), ("choice", 0)], 1)], [([("number", 2), ("choice", 1)], 1)])), is_where_point(mute, joined, ("a",), ([([("number", 4), ("choice", 0)], 1)], [([("number", 4), ("choice", 1)], 1)]))]
+# [True, False]
+"""
+
+READING = """
+from truestops.benches import Bench
+from truestops.programs import Program
+from truestops.reading import are_notes, are_read_runs, is_read_rule, past_rule, read_rule, readable
+from truestops.rows import Rows
+tale = Program(5, ["x", "y"], [], ([], [("read", "a", "x"), ("read", "b", "y"), ("print", "c", {"x": 1, "y": 1})]))
+made = Rows(5, 2, {"main": (0, [("read", 0), ("mark", "k", [("b",)]), ("read", 1), ("add", 0, 1), ("set", 1, 0), ("mark", "m", [("c",)]), ("print", 0), ("end",)])})
+desk, early, late = Bench(tale, made), ("k", ()), ("m", ())
+[is_read_rule(desk, early, ("b",), {"x": 1}, {"#0": 1}), read_rule(desk, late, ("c",), {"x": 1}), is_read_rule(desk, late, ("c",), {"x": 1, "y": 1}, {"#0": 1}), is_read_rule(desk, late, ("c",), {"x": 1, "y": 1}, {"#0": 1, "#1": 3})]
+# [True, None, True, True]
+runs = [([("number", 1), ("number", 0)], 1), ([("number", 0), ("number", 1)], 4)]
+[are_read_runs(desk, late, ("c",), {"x": 1}, runs), are_read_runs(desk, late, ("c",), {"x": 1, "y": 1}, runs), readable(desk, late, ("c",)), readable(desk, early, ("b",))]
+# [True, False, [{'x': 1, 'y': 1}], [{'x': 1}, {'y': 1}]]
+[are_notes(desk, late, ("c",), [{"x": 1}, {"y": 1}], [1]), are_notes(desk, late, ("c",), [{"x": 1}, {"y": 1}], []), are_notes(desk, late, ("c",), [{"x": 1}, {"y": 1}], [0, 1]), past_rule(desk, early, ("b",), late, {"x": 1})]
+# [True, False, False, None]
+"""
+
+
+def statements(block):
+    """The lines of a block; a function's lines are one statement."""
+    found = []
+    for line in block.strip().split("\n"):
+        if line.startswith("    "):
+            found[-1] += "\n" + line
+        else:
+            found.append(line)
+    return found
+
 
 def answers(block):
     """Each answer that a block gives, beside what its line comes to here."""
     known, last, found = {}, None, []
-    for line in block.strip().split("\n"):
+    for line in statements(block):
         if line.startswith("# "):
             found.append((line[2:], last))
-        elif line.startswith("from ") or " = " in line.partition("(")[0]:
+            continue
+        try:
+            told = compile(line, "block", "eval")
+        except SyntaxError:
             exec(line, known)
         else:
-            last = repr(eval(line, known))
+            last = repr(eval(told, known))
     return found
 
 
@@ -67,6 +204,30 @@ class Examples(unittest.TestCase):
 
     def test_section_5(self):
         self.block(FLOWS, 4)
+
+    def test_section_6(self):
+        self.block(ROWS, 2)
+
+    def test_section_7(self):
+        self.block(SPANS, 5)
+
+    def test_section_8(self):
+        self.block(ALIKE, 4)
+
+    def test_section_9(self):
+        self.block(SEEN, 3)
+
+    def test_section_10(self):
+        self.block(MAKING, 2)
+
+    def test_section_11(self):
+        self.block(REWRITING, 2)
+
+    def test_section_12(self):
+        self.block(BENCHES, 3)
+
+    def test_section_13(self):
+        self.block(READING, 3)
 
 
 if __name__ == "__main__":

@@ -3,7 +3,7 @@
 import inspect
 import unittest
 
-from truestops import errors, flows, numbers, programs
+from truestops import alike, benches, errors, flows, making, numbers, programs, reading, rewriting, rows, seen, spans
 
 LISTED = {
     numbers: [
@@ -22,22 +22,66 @@ LISTED = {
         "points(program)", "stop_places(program)", "alive_at(program, place)", "way_of(program, inputs)",
         "run_flow(program, inputs)",
     ],
+    rows: [
+        "Rows(prime, boxes, units)", "run_rows(rows, inputs)", "stands(rows, inputs)", "paths_of(rows)",
+        "marks_of(rows)", "passed_marks(rows, inputs)", "linked(prime, boxes, parts)", "wants(prime, boxes, units)",
+    ],
+    spans: [
+        "state_at(engine, where, inputs)", "kept_at(engine, where)", "is_mixture(engine, where, value)",
+        "always(engine, where, wanted)", "always_zero(engine, where)", "is_always_zero(engine, where, wanted)",
+    ],
+    alike: [
+        "alike(one, other)", "parting_inputs(one, other)", "kept_beside(one, other)", "enough(one, other)",
+        "where_beside(one, other, where)", "alike_paper(one, other)", "is_alike_paper(one, other, value)",
+    ],
+    seen: [
+        "shown(engine, where, stir, going_on)", "is_idle(engine, where, stir)", "idle_stirs(engine, where)",
+        "showing(engine, where, stir)", "seen_sums(engine, where)", "seen_paper(engine, where)",
+        "is_seen_paper(engine, where, value)",
+    ],
+    making: [
+        "made(program)", "is_made(program, value)", "bare_stops(bench)", "unread(bench, stop)",
+        "straight(prime, cells, wanted)", "are_straight(prime, cells, wanted, value)",
+    ],
+    rewriting: [
+        "passes_alike(one, other)", "parting_passes(one, other)", "calls_opened(rows)", "is_calls_opened(rows, value)",
+        "tails_joined(rows)", "is_tails_joined(rows, value)", "lost_stops(one, other)", "idle_rows(rows)",
+        "idle_left_out(rows)", "is_idle_left_out(rows, value)", "boxes_called(rows, order)",
+    ],
+    benches: [
+        "Bench(program, rows)", "marks(bench)", "stops_of(bench, mark)", "mark_word(bench, mark)",
+        "out_of_order(bench)", "where_rule(bench, mark, stop)", "is_where_rule(bench, mark, stop, value)",
+        "where_point(bench, mark, stop)", "is_where_point(bench, mark, stop, value)",
+    ],
+    reading: [
+        "read_rule(bench, mark, stop, wanted)", "is_read_rule(bench, mark, stop, wanted, value)",
+        "read_runs(bench, mark, stop, wanted)", "are_read_runs(bench, mark, stop, wanted, value)",
+        "readable(bench, mark, stop)", "notes(bench, mark, stop, sums)", "are_notes(bench, mark, stop, sums, value)",
+        "past_rule(bench, earlier, stop, mark, wanted)", "is_past_rule(bench, earlier, stop, mark, wanted, value)",
+        "past_runs(bench, earlier, stop, mark, wanted)", "are_past_runs(bench, earlier, stop, mark, wanted, value)",
+    ],
 }
-METHODS = {"prime": "(self)", "shared": "(self)", "procedures": "(self)", "body": "(self)", "__eq__": "(self, other)"}
+METHODS = {
+    programs.Program: ["prime(self)", "shared(self)", "procedures(self)", "body(self)", "__eq__(self, other)"],
+    rows.Rows: ["prime(self)", "boxes(self)", "units(self)", "__eq__(self, other)"],
+    benches.Bench: ["program(self)", "rows(self)", "__eq__(self, other)"],
+}
 
 
 class Interface(unittest.TestCase):
     def test_functions_and_classes(self):
-        for module, rows in LISTED.items():
-            for row in rows:
+        for module, listed in LISTED.items():
+            for row in listed:
                 name = row.partition("(")[0]
                 thing = getattr(module, name)
                 self.assertEqual(name + str(inspect.signature(thing)), row)
                 self.assertEqual(thing.__module__, module.__name__)
 
     def test_methods_stand_in_the_class(self):
-        for name, parameters in METHODS.items():
-            self.assertEqual(str(inspect.signature(vars(programs.Program)[name])), parameters)
+        for kind, listed in METHODS.items():
+            for row in listed:
+                name = row.partition("(")[0]
+                self.assertEqual(name + str(inspect.signature(vars(kind)[name])), row)
 
     def test_errors(self):
         for name, thing in vars(errors).items():

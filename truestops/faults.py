@@ -127,6 +127,6 @@ def first_fault(shared, procedures, body):
     if Sizes(table_of(procedures)).of_program(shared, body) > MOST_PLACES:
         return ("", "places", None)
     # The prime means nothing for the number of stops.
-    if len(Flow(2, shared, procedures, body).stop_places) > MOST_STOPS:
+    if len(Flow(2, shared, procedures, body).passing_places) > MOST_STOPS:
         return ("", "stops", None)
     return None

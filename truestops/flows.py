@@ -21,7 +21,7 @@ def points(program):
 
 def stop_places(program):
     require_program(program)
-    places = program.flow.stop_places
+    places = program.flow.passing_places
     return {stop: places[stop] for stop in places}
 
 
@@ -29,7 +29,7 @@ def alive_at(program, place):
     require_program(program)
     if not is_count(place) or place >= len(program.flow.points):
         raise InvalidCount(place)
-    return list(program.flow.alive[place])
+    return list(program.flow.living(place))
 
 
 def way_of(program, inputs):

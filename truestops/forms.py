@@ -20,6 +20,16 @@ def is_name(value):
     return all([sign in SMALL_LETTERS for sign in value])
 
 
+def name_by_count(count):
+    """A name of its own for each count: a, b, .., z, aa, ab, .."""
+    name = ""
+    left = count + 1
+    while left > 0:
+        left, at = divmod(left - 1, len(SMALL_LETTERS))
+        name = SMALL_LETTERS[at] + name
+    return name
+
+
 def is_names(value):
     return type(value) is list and all([is_name(name) for name in value])
 
@@ -73,3 +83,21 @@ def letter_fits(prime, asking, letter):
     if asking[0] == "choice":
         return letter[0] == "choice" and letter[1] < asking[1]
     return False
+
+
+def is_sum(prime, value):
+    """Whether a value is a sum of holders, whichever there are."""
+    if type(value) is not dict or not all([type(key) is str for key in value]):
+        return False
+    return all([is_factor(prime, factor) for factor in value.values()])
+
+
+def is_stir(prime, value):
+    return is_sum(prime, value) and "" not in value
+
+
+def is_state(prime, value, holders):
+    """Whether a value leads just these holders to numbers."""
+    if type(value) is not dict or len(value) != len(holders):
+        return False
+    return all([holder in value and is_number(prime, value[holder]) for holder in holders])

@@ -64,10 +64,11 @@ class Flow:
 
     def __init__(self, modulus, shared, procedures, body):
         self.modulus = modulus
+        self.start = 0
         self.points = []
         self.alive = []
         self.sights = {}
-        self.stop_places = {}
+        self.passing_places = {}
         self._table = table_of(procedures)
         self._sizes = Sizes(self._table)
         self._globals = {name: name for name in shared}
@@ -76,6 +77,24 @@ class Flow:
             self._add_point(("live", holders, 1), [])
         self._add_block(body, ((), self._globals, holders), self._sizes.of_program(shared, body) - 1)
         self._add_point(("end",), holders)
+
+    def point(self, place):
+        return self.points[place]
+
+    def living(self, place):
+        """The ascending list of the holders that live ahead of the point at a place."""
+        return self.alive[place]
+
+    def name_of(self, place):
+        """What an asking place is told as: its stop. Each point that asks stands right behind that of its stop."""
+        return self.points[place - 1][1]
+
+    def place_named(self, told):
+        """The asking place that is told so, or None."""
+        if told not in list(self.passing_places):
+            return None
+        place = self.passing_places[told] + 1
+        return place if self.points[place][0] in ("read", "pick") else None
 
     def _here(self):
         return len(self.points)
@@ -109,7 +128,7 @@ class Flow:
         stop = path + (statement[1],)
         place = self._here()
         many = self._sizes.of_statement(statement)
-        self.stop_places[stop] = place
+        self.passing_places[stop] = place
         self.sights[stop] = ascending(sight)
         self._add_point(("pass", stop, after if many == 1 else place + 1), alive)
         if statement[0] == "read":

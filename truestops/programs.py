@@ -1,5 +1,6 @@
 """Programs, their runs and their texts."""
 
+from truestops.beats import Beats
 from truestops.errors import Fault, InvalidProgram, InvalidText, UnknownStop
 from truestops.faults import first_fault
 from truestops.forms import is_names, require_prime
@@ -11,7 +12,7 @@ from truestops.writing import program_lines
 
 
 class Program:
-    """A program that never changes. `flow` is its opened text, by which it runs."""
+    """A program that never changes. `flow` is its opened text, `beats` how it goes from asking to asking."""
 
     def __init__(self, prime, shared, procedures, body):
         require_prime(prime)
@@ -29,6 +30,7 @@ class Program:
         self._procedures = copy_procedures(procedures)
         self._body = copy_block(body)
         self.flow = Flow(prime, self._shared, self._procedures, self._body)
+        self.beats = Beats(self.flow)
 
     def prime(self):
         return self._prime
@@ -56,7 +58,7 @@ def require_program(program):
 
 def require_stop(program, stop):
     require_program(program)
-    if stop not in list(program.flow.stop_places):
+    if stop not in list(program.flow.passing_places):
         raise UnknownStop(stop)
 
 
@@ -68,12 +70,12 @@ def run_program(program, inputs):
 
 def all_stops(program):
     require_program(program)
-    return list(program.flow.stop_places)
+    return list(program.flow.passing_places)
 
 
 def holders_at(program, stop):
     require_stop(program, stop)
-    return list(program.flow.alive[program.flow.stop_places[stop]])
+    return list(program.flow.living(program.flow.passing_places[stop]))
 
 
 def in_sight(program, stop):

@@ -14,7 +14,7 @@ class Walk:
 
     def __init__(self, flow):
         self.flow = flow
-        self.place = 0
+        self.place = flow.start
         self.numbers = {}
         self.way = []
         self.passed = []
@@ -22,7 +22,7 @@ class Walk:
 
     def asking(self):
         """What is asked for, or the end, where the run stands behind a beat."""
-        point = self.flow.points[self.place]
+        point = self.flow.point(self.place)
         if point[0] == "read":
             return ("number",)
         if point[0] == "pick":
@@ -31,7 +31,7 @@ class Walk:
 
     def give(self, letter):
         """Takes a letter that fits. The beat behind it begins with the place to which it leads."""
-        point = self.flow.points[self.place]
+        point = self.flow.point(self.place)
         if point[0] == "read":
             self.numbers[point[1]] = letter[1]
             self.place = point[2]
@@ -43,15 +43,15 @@ class Walk:
         self.way = [self.place]
         self.passed = []
         self.printed = []
-        point = self.flow.points[self.place]
+        point = self.flow.point(self.place)
         while point[0] not in ("read", "pick", "end"):
             self._carry_out(point)
             self.place = point[-1]
             self.way.append(self.place)
-            point = self.flow.points[self.place]
+            point = self.flow.point(self.place)
 
     def state(self):
-        return {holder: self.numbers[holder] for holder in self.flow.alive[self.place]}
+        return {holder: self.numbers[holder] for holder in self.flow.living(self.place)}
 
     def _carry_out(self, point):
         if point[0] == "live":
