@@ -24,14 +24,14 @@ def moved(chance, rows, at):
     return rows[:at] + rows[at + 1:at + 1 + many] + [rows[at]] + rows[at + 1 + many:]
 
 
-def tampered(chance, stops, rows):
-    """The rows of a unit in which marks have other stops, or stand some rows later."""
+def tampered(chance, stops, rows, may_move):
+    """The rows of a unit in which marks have other stops, or, if they may, stand some rows later."""
     for at, row in enumerate(rows):
         if row[0] == "mark" and chance.random() < 0.5:
             more = {chance.choice(stops) for _ in range(chance.randint(1, 2))} | set(row[2] if chance.random() < 0.8 else [])
             rows = rows[:at] + [("mark", row[1], sorted(more))] + rows[at + 1:]
     for at in reversed(range(len(rows))):
-        if rows[at][0] == "mark" and chance.random() < 0.4:
+        if rows[at][0] == "mark" and may_move and chance.random() < 0.4:
             rows = moved(chance, rows, at)
     return rows
 
@@ -46,7 +46,8 @@ def variant(chance, program, rows, kind):
     elif kind == 3:
         rows = calls_opened(rows)
     stops = all_stops(program) or [("none",)]
-    units = {name: (cells, tampered(chance, stops, told)) for name, (cells, told) in rows.units().items()}
+    # Where tails are joined jumps lead to any rows.
+    units = {name: (cells, tampered(chance, stops, told, kind != 1)) for name, (cells, told) in rows.units().items()}
     return Rows(rows.prime(), rows.boxes(), units)
 
 

@@ -5,7 +5,7 @@ from tests.checks import Checks, bent_ones
 from tests.machines import ChanceRows, letters_for
 from tests.odd import odd_objects
 from tests.oracle import Chance
-from tests.test_spans import NOUGHT, ON, ONE, ROUND, STEPS, summing, summing_rows
+from tests.test_spans import NOUGHT, ON, ONE, ROUND, summing, summing_rows
 from truestops.alike import alike, alike_paper, enough, is_alike_paper, kept_beside, parting_inputs, where_beside
 from truestops.errors import Fault, InvalidEngine, UnknownMark, UnknownStop, UnlikePrimes, Unsound
 from truestops.making import made

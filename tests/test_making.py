@@ -4,12 +4,11 @@ import itertools
 import random
 
 from tests.checks import Checks, bent_ones
+from tests.machines import Machine
 from tests.odd import odd_objects
 from tests.stock import chance_stock
-from tests.test_benches import bad_marks
 from tests.test_runs import chance_programs, nested
 from tests.test_spans import summing, summing_rows
-from tests.machines import Machine
 from truestops.alike import alike
 from truestops.benches import Bench, mark_word, marks, out_of_order, stops_of
 from truestops.errors import InvalidBench, InvalidCount, InvalidPrime, InvalidProgram, InvalidSum, UnknownStop

@@ -6,11 +6,11 @@ import random
 from tests.checks import Checks, bent_ones
 from tests.odd import odd_objects
 from tests.stock import chance_stock, joined_stock
-from tests.test_benches import JOINED, bad_marks, mute_bench, told_bench
-from tests.test_spans import NOUGHT, ON, ONE, ROUND, summing, summing_rows
+from tests.test_benches import JOINED, bad_marks, told_bench
+from tests.test_spans import NOUGHT, ONE, summing_rows
 from truestops.benches import Bench, mark_word, marks
 from truestops.errors import InvalidBench, InvalidSum, NeverPassed, Stray, Uneven, UnknownHolder, UnknownMark, UnknownStop
-from truestops.numbers import rank, reduced, solved
+from truestops.numbers import reduced, solved
 from truestops.programs import Program
 from truestops.reading import (
     are_notes,
@@ -146,6 +146,9 @@ class Point60And61(Against):
                                                         [([ONE, NOUGHT], 1), ([NOUGHT, ONE], 4), ([ONE, ONE], 0)], [([ONE, NOUGHT], 1), ((NOUGHT, ONE), 4)]]:
             self.assertIs(are_read_runs(desk, LATE, ("c",), {"x": 1}, bent), repr(bent) in [repr(value) for value in right], bent)
         self.assertIs(are_read_runs(desk, LATE, ("c",), {"x": 1, "y": 1}, paper), False)
+        # The boxes add up to 0 here, but the factors do not; and the other way round.
+        for bad in [[([ONE, ("number", 4)], 1)], [([ONE, ("number", 4)], 1), ([("number", 2), ("number", 3)], 1)], [([ONE, ONE], 1), ([NOUGHT, ONE], 4)]]:
+            self.assertIs(are_read_runs(desk, LATE, ("c",), {"x": 1}, bad), False)
 
     def test_at_most_two_more_than_holders(self):
         desk = tale()

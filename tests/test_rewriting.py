@@ -13,7 +13,6 @@ from tests.test_rows import ring_of_units, sound_rows
 from tests.test_spans import NOUGHT, ON, ONE, ROUND, summing, summing_rows
 from truestops.alike import alike, parting_inputs
 from truestops.errors import InvalidCount, InvalidRows, UnlikePrimes, Unsound
-from truestops.programs import Program
 from truestops.rewriting import (
     boxes_called,
     calls_opened,
@@ -348,7 +347,9 @@ class Point53(Against):
         for one in made_and_chance(range(110), 2):
             found = idle_rows(one.engine)
             self.assertEqual(found, sorted(found))
-            inputs = list(one.inputs(5))[-60:]
+            inputs = list(one.inputs(5))
+            all_end = max(map(len, inputs)) < 5
+            inputs = inputs[-60:]
             gone_through = self.places(one, inputs)
             for name, (_, rows) in one.parts[2].items():
                 for at, row in enumerate(rows):
@@ -357,7 +358,7 @@ class Point53(Against):
                         tried[parted] += 1
                         # What few letters do not show may still show later.
                         self.assertFalse(parted and (name, at) in found)
-                        if not parted and len(inputs) < 60:
+                        if not parted and all_end and len(inputs) < 60:
                             self.assertIn((name, at), found)
                     elif (name, at) in found:
                         self.assertIn(row[0], CHANGING)

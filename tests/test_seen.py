@@ -7,9 +7,9 @@ from tests.brute import chance_engines
 from tests.checks import Checks, bent_ones
 from tests.machines import letters_for
 from tests.odd import odd_objects
-from tests.test_spans import NOUGHT, ON, ONE, ROUND, summing, summing_rows, wheres
+from tests.test_spans import NOUGHT, ON, ROUND, summing, summing_rows, wheres
 from truestops.errors import InvalidEngine, InvalidInputs, InvalidSum, NeverPassed, UnknownHolder, UnknownMark, UnknownStop
-from truestops.numbers import is_solved, rank, reduced, solved
+from truestops.numbers import rank, reduced, solved
 from truestops.programs import Program
 from truestops.rows import Rows
 from truestops.seen import idle_stirs, is_idle, is_seen_paper, seen_paper, seen_sums, showing, shown

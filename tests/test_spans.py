@@ -3,7 +3,7 @@
 import itertools
 import random
 
-from tests.brute import Engine, chance_engines, is_mixture_of, kept_of
+from tests.brute import chance_engines, is_mixture_of, kept_of
 from tests.checks import Checks, bent_ones
 from tests.odd import odd_objects
 from truestops.errors import InvalidEngine, InvalidInputs, InvalidSum, UnknownHolder, UnknownMark, UnknownStop

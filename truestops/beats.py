@@ -62,7 +62,7 @@ class Beat:
         return self.asked[0] != "end"
 
 
-class Making:
+class BeatMaker:
     """Makes one beat of a flow, from a place on, with the vectors of the holders that live there."""
 
     def __init__(self, flow, place, vectors, width):
@@ -142,4 +142,4 @@ class Beats:
         vectors = {holder: unit_vector(width, at) for at, holder in enumerate(holders)}
         if reader is not None:
             vectors[reader] = unit_vector(width, width - 2)
-        return Making(self.flow, begin, vectors, width).made(key)
+        return BeatMaker(self.flow, begin, vectors, width).made(key)

@@ -58,7 +58,8 @@ class UnitWriter:
     def write_block(self, block, scope, free):
         """Writes a block whose own variables take cells from the first free one on, as blocks beside it do."""
         own, statements = block
-        inner = {**scope, **{name: (False, free + at) for at, name in enumerate(own)}}
+        fresh = {name: (False, free + at) for at, name in enumerate(own)}
+        inner = {**scope, **fresh}
         behind = free + len(own)
         self.cells = max(self.cells, behind)
         if own:

@@ -1,5 +1,6 @@
 """The faults of a program that has the form of one, in the order of its text."""
 
+from truestops.leading import led_to
 from truestops.opening import Flow, Sizes, table_of
 from truestops.statements import blocks_of, changed_by, sums_of
 
@@ -15,19 +16,6 @@ def names_called(block):
             found.append(statement[2])
         for inner in blocks_of(statement):
             found.extend(names_called(inner))
-    return found
-
-
-def led_to(leads, name):
-    """A dictionary of True for each name to which calls lead from a procedure, its own one, too."""
-    found = {name: True}
-    waiting = [name]
-    while waiting:
-        caller = waiting.pop()
-        for called in leads.get(caller, []):
-            if called not in found:
-                found[called] = True
-                waiting.append(called)
     return found
 
 

@@ -39,10 +39,6 @@ def own_marks(bench, stop):
     return [mark for mark in flow.passing_places if flow.stops_of(mark) == [stop] and bench.passings.is_true(mark)]
 
 
-def bare_ones(bench):
-    return [stop for stop in stops_some_run_passes(bench) if not own_marks(bench, stop)]
-
-
 def unread_at(bench, mark, stop):
     """The variables in sight at a stop, ascending, that have no rule at a mark."""
     question = question_at(bench, mark, stop)
@@ -69,7 +65,7 @@ def is_made(program, value):
 
 def bare_stops(bench):
     require_bench(bench)
-    return bare_ones(bench)
+    return [stop for stop in stops_some_run_passes(bench) if not own_marks(bench, stop)]
 
 
 def unread(bench, stop):

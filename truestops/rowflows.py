@@ -7,7 +7,7 @@ from truestops.rowforms import each_row
 
 
 def name_of_box(box):
-    return f"#{box}"
+    return "#" + str(box)
 
 
 def name_of_cell(depth, cell):

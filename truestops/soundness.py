@@ -1,5 +1,6 @@
 """The first row of units that is not sound."""
 
+from truestops.leading import led_to
 from truestops.rowforms import each_row, leads_to, units_called
 
 
@@ -24,21 +25,9 @@ def first_bent_row(units):
     return None
 
 
-def led_by_calls(units, name):
-    """A dictionary of True for each unit to which calls lead from one, its own name, too."""
-    found = {name: True}
-    waiting = [name]
-    while waiting:
-        caller = waiting.pop()
-        for called in units_called(units[caller][1]):
-            if called not in found:
-                found[called] = True
-                waiting.append(called)
-    return found
-
-
 def first_call_on_ring(units):
-    led = {name: led_by_calls(units, name) for name in units}
+    leads = {name: units_called(units[name][1]) for name in units}
+    led = {name: led_to(leads, name) for name in units}
     for unit, at, row in each_row(units):
         if row[0] == "call" and unit in led[row[1]]:
             return (unit, at)

@@ -43,15 +43,12 @@ class Unrolling:
         self._write(path + (row[2],), row[1], base)
 
     def _written(self, path, row, base):
+        """A row as it stands where its path opens its unit. The cells of main stay the first ones for all."""
         word = row[0]
         if word == "take":
             return ("take", row[1], base + row[2])
         if word == "keep":
             return ("keep", base + row[1], row[2])
-        if word == "fetch":
-            return ("take", row[1], row[2])
-        if word == "store":
-            return ("keep", row[1], row[2])
         if word == "go":
             return ("go", (path, row[1]))
         if word == "pick":
