@@ -25,6 +25,7 @@ METHODS = set(
     "ljust lower lstrip partition pop remove replace reverse rfind rjust rpartition rsplit rstrip setdefault split splitlines "
     "startswith strip update upper values zfill bit_length".split()
 )
+ATTRIBUTES = set("count index title find get join lower upper split strip copy add".split())
 NEVER = set("register mro elements open input law version_info with_traceback add_note".split())
 NEVER_IN_STRINGS = set(
     "typing typing_extensions enum Enum IntEnum StrEnum Flag IntFlag Generic Protocol ABC ABCMeta namedtuple NamedTuple TypedDict "
@@ -171,6 +172,18 @@ class Language(unittest.TestCase):
         for name, node in each_node(ast.Call):
             if isinstance(node.func, ast.Attribute):
                 self.assertIn(node.func.attr, own | METHODS, (name, node.lineno))
+
+    def test_methods_and_attributes_have_no_names_of_builtin_values(self):
+        theirs = {name for kind in (str, bytes, int, list, tuple, dict, set, frozenset) for name in dir(kind) if name[0] != "_"}
+        barred_methods = theirs - (METHODS | {"add", "discard"}) | {"items", "keys", "values"}
+        barred_attributes = theirs - ATTRIBUTES | {"args", "format_map"}
+        for name, node in each_node(ast.ClassDef):
+            for inner in ast.walk(node):
+                if isinstance(inner, ast.FunctionDef):
+                    self.assertNotIn(inner.name, barred_methods, (name, inner.lineno))
+        for name, node in each_node(ast.Attribute):
+            if isinstance(node.ctx, ast.Store):
+                self.assertNotIn(node.attr, barred_attributes, (name, node.lineno))
 
     def test_is_beside_none_true_and_false_only(self):
         for name, node in each_node(ast.Compare):

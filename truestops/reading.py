@@ -64,11 +64,11 @@ class Question:
         self.bench = kind.bench
         self.mark = mark
         self.modulus = self.bench.rows().prime()
-        self.keys = variables_at(self.bench, stop) + [""]
+        self.names = variables_at(self.bench, stop) + [""]
         self.runs = kind.base_runs()
 
     def number_in(self, run, wanted):
-        return product_of(self.modulus, vector_of(wanted, self.keys), run.variables + [1])
+        return product_of(self.modulus, vector_of(wanted, self.names), run.variables + [1])
 
     def numbers_in_runs(self, wanted):
         return [self.number_in(run, wanted) for run in self.runs]
