@@ -63,7 +63,7 @@ def bent_ones(thing):
     if isinstance(thing, dict):
         return bent_dicts(thing)
     parts = list(thing)
-    lists = [parts[:at] + parts[at + 1:] for at in range(len(parts))] + [parts + [None], parts + parts[:1]]
+    lists = [parts[:at] + parts[at + 1:] for at in range(len(parts))] + [parts + [None]] + [parts + [part] for part in parts[:1]]
     lists += [parts[:at] + [bent] + parts[at + 1:] for at in range(len(parts)) for bent in bent_ones(parts[at])]
     lists += [parts[::-1]] if parts[::-1] != parts else []
     kind, other = (list, tuple) if isinstance(thing, list) else (tuple, list)

@@ -2,7 +2,7 @@
 
 import random
 
-from tests.oracle import deeds_of
+from tests.oracle import deeds_of, stirs_at
 
 
 class Machine:
@@ -16,16 +16,19 @@ class Machine:
         self.beats = [[]]
         self.passed = []
         self.place = None
-        # Where it is stirred: what is passed, in which beat, and the stir.
+        # Where it is stirred: what is passed, in which beat, and the stir; one such tuple, or a list of them.
         self.stirred = None
+        # What is passed, with the state behind being stirred.
+        self.left = []
 
     def note(self, mark):
         self.passed.append((mark, self.state(), len(self.beats[-1])))
-        if self.stirred and self.stirred[:2] == (mark, len(self.beats) - 1):
-            for holder, amount in self.stirred[2].items():
+        for stir in stirs_at(self.stirred, mark, len(self.beats) - 1):
+            for holder, amount in stir.items():
                 depth, _, at = holder[1:].rpartition(".")
                 held = self.frames[int(depth)] if holder[0] == "@" else self.boxes
                 held[int(at)] = (held[int(at)] + amount) % self.prime
+        self.left.append((mark, self.state()))
 
     def state(self):
         found = {f"#{b}": n for b, n in enumerate(self.boxes)}
@@ -91,6 +94,7 @@ def gone_through(parts, inputs, stirred=None):
             return None
         machine.beats.append([])
         machine.passed = []
+        machine.left = []
         try:
             asked = run.send(letter[1])
         except StopIteration:
@@ -101,8 +105,8 @@ def gone_through(parts, inputs, stirred=None):
 class Told:
     """What one engine does on inputs, by the second reckonings: beats, asking, what is passed, place and state."""
 
-    def __init__(self, beats, asked, passed, place=None, state=None):
-        self.beats, self.asked, self.passed, self.place, self.state = beats, asked, passed, place, state
+    def __init__(self, beats, asked, passed, place=None, state=None, left=None):
+        self.beats, self.asked, self.passed, self.place, self.state, self.left = beats, asked, passed, place, state, left
 
     def at(self, where):
         for told, state, many in self.passed:
@@ -118,7 +122,7 @@ def told_of_program(parts, inputs, stirred=None):
     deeds, asked = found
     # A stop that asks is the last one that is passed in its beat.
     place = deeds.passed[-1][0] if asked != ("end",) else None
-    return Told(deeds.beats, asked, deeds.passed, place, dict(sorted(deeds.numbers.items())))
+    return Told(deeds.beats, asked, deeds.passed, place, dict(sorted(deeds.numbers.items())), deeds.left)
 
 
 def told_of_rows(parts, inputs, stirred=None):
@@ -126,7 +130,7 @@ def told_of_rows(parts, inputs, stirred=None):
     if found is None:
         return None
     machine, asked = found
-    return Told(machine.beats, asked, machine.passed, machine.place, machine.state())
+    return Told(machine.beats, asked, machine.passed, machine.place, machine.state(), machine.left)
 
 
 def letters_for(asked, prime):

@@ -14,8 +14,10 @@ class Deeds:
         self.beats = [[]]
         self.passed = []
         self.body = body
-        # Where it is stirred: what is passed, in which beat, and the stir.
+        # Where it is stirred: what is passed, in which beat, and the stir; one such tuple, or a list of them.
         self.stirred = None
+        # What is passed, with the state behind being stirred.
+        self.left = []
 
     def worth(self, wanted, sight):
         numbers = [n * (self.numbers[sight[name]] if name else 1) for name, n in wanted.items()]
@@ -23,9 +25,10 @@ class Deeds:
 
     def note(self, stop):
         self.passed.append((stop, dict(sorted(self.numbers.items())), len(self.beats[-1])))
-        if self.stirred and self.stirred[:2] == (stop, len(self.beats) - 1):
-            for holder, amount in self.stirred[2].items():
+        for stir in stirs_at(self.stirred, stop, len(self.beats) - 1):
+            for holder, amount in stir.items():
                 self.numbers[holder] = (self.numbers[holder] + amount) % self.prime
+        self.left.append((stop, dict(sorted(self.numbers.items()))))
 
     def do_block(self, block, sight, path):
         own, statements = block
@@ -70,6 +73,11 @@ class Deeds:
         self.numbers.update({sight[variable]: number for variable, number in zip(variables, told)})
 
 
+def stirs_at(stirred, where, beat):
+    told = stirred if isinstance(stirred, list) else [stirred] if stirred else []
+    return [stir for place, at, stir in told if (place, at) == (where, beat)]
+
+
 def carried_out(parts, inputs):
     """The beats, the asking and the stops passed in the last beat; None instead if a letter does not fit."""
     found = deeds_of(parts, inputs)
@@ -91,6 +99,7 @@ def deeds_of(parts, inputs, stirred=None):
             return None
         deeds.beats.append([])
         deeds.passed = []
+        deeds.left = []
         try:
             asked = run.send(number)
         except StopIteration:

@@ -161,6 +161,76 @@ runs = [([("number", 1), ("number", 0)], 1), ([("number", 0), ("number", 1)], 4)
 # [True, False, False, None]
 """
 
+MOVING = """
+from truestops.benches import Bench
+from truestops.moving import change_for, fewest_knobs, is_change_for, is_change_with_knobs, is_why_unmoved, movable_stirs, moved_run
+from truestops.programs import Program
+from truestops.rows import Rows
+lines = [("read", "a", "x"), ("set", "b", "y", {"x": 2}), ("print", "c", {"x": 1, "y": 1})]
+double = Program(5, [], [], (["x", "y"], lines + [("again", "d", ([], [("print", "e", {"y": 1})]))]))
+first = [("read", 0), ("mark", "m", [("c",)]), ("copy", 1, 0), ("times", 1, 3), ("print", 1), ("copy", 1, 0), ("times", 1, 2)]
+thin = Bench(double, Rows(5, 2, {"main": (0, first + [("pick", [10, 8]), ("print", 1), ("go", 7), ("end",)])}))
+m, c = ("m", ()), ("c",)
+[is_change_for(thin, m, c, {"x": 1, "y": 2}, {"#0": 1}), change_for(thin, m, c, {"x": 1}), movable_stirs(thin, m, c), fewest_knobs(thin, m, c, [{"x": 1}, {"y": 1}])]
+# [True, None, [{'x': 1, 'y': 2}], 1]
+[is_why_unmoved(thin, m, c, {"x": 1}, [([], 0, 1), ([("choice", 1)], 1, 1)]), is_change_with_knobs(thin, m, c, {"y": 1}, [{"x": 1}], ({"#0": 3}, [2]))]
+# [True, True]
+moved_run(thin, m, c, {"x": 1, "y": 2}, {"#0": 1}, 2, [("number", 1), ("choice", 1)])
+# ([[], [4], [1]], [[], [4], [1]])
+"""
+
+PIECES = """
+from truestops.benches import Bench
+from truestops.pieces import by_pieces, carried, first_piece, is_piece_ladder, next_marks, piece_ladder, piece_stirs
+from truestops.programs import Program
+from truestops.rows import Rows
+both = Program(5, ["u", "v"], [], ([], [("read", "r", "u"), ("set", "w", "v", {"u": 1}), ("print", "s", {"u": 1}), ("print", "t", {"v": 1})]))
+def one_box(rows):
+    return Bench(both, Rows(5, 1, {"main": (0, [("read", 0), ("mark", "m", [("s",)]), ("print", 0)] + rows + [("print", 0), ("end",)])}))
+parted, whole, here, there = one_box([("mark", "n", [("t",)])]), one_box([]), ("m", ()), ("n", ())
+[piece_stirs(parted, here, ("s",)), piece_stirs(whole, here, ("s",)), by_pieces(whole, here, ("s",), {"u": 1})]
+# [[{'u': 1}, {'v': 1}], [{'u': 1, 'v': 1}], False]
+[first_piece(parted, here, ("s",), {"u": 2}), first_piece(parted, here, ("s",), {"v": 1}), next_marks(parted, here, ("s",)), carried(parted, here, ("s",), {"u": 1, "v": 2}, []), carried(whole, here, ("s",), {"u": 1}, [])]
+# [{'#0': 2}, {}, [(('n', ()), ('t',))], (('n', ()), ('t',), {'u': 1, 'v': 2}), None]
+step = (here, ("s",), {"u": 1, "v": 4}, [("print", [], 0, 1), ("print", [], 1, 4)])
+[is_piece_ladder(whole, here, ("s",), {"u": 1}, [step]), is_piece_ladder(whole, here, ("s",), {"u": 1, "v": 1}, [step]), piece_ladder(parted, here, ("s",), {"u": 1})]
+# [True, False, None]
+"""
+
+PUTTING = """
+from truestops.benches import Bench
+from truestops.programs import Program
+from truestops.putting import counted_sums, is_put_rule, is_why_unput, put_numbers, put_rule
+from truestops.rows import Rows
+tale = Program(5, ["x", "y"], [], ([], [("read", "a", "x"), ("read", "b", "y"), ("print", "c", {"x": 1, "y": 1})]))
+made = Rows(5, 2, {"main": (0, [("read", 0), ("read", 1), ("add", 0, 1), ("set", 1, 0), ("mark", "m", [("c",)]), ("print", 0), ("end",)])})
+desk, late, both = Bench(tale, made), ("m", ()), {"#0": {"=x": 1, "=y": 1}}
+[put_rule(desk, [], late, ("c",), ["x"]), put_rule(desk, [], late, ("c",), ["y"]), is_put_rule(desk, [], late, ("c",), ["x", "y"], both), counted_sums(desk, [], late, ("c",), ["x", "y"]), counted_sums(desk, [], late, ("c",), ["x"])]
+# [None, None, True, [{'x': 1, 'y': 1}], [{'x': 1}]]
+runs = [([("number", 1), ("number", 0)], 1), ([("number", 0), ("number", 1)], 4)]
+[is_why_unput(desk, [], late, ("c",), ["x"], ("read", [], 0, runs)), is_why_unput(desk, [], late, ("c",), ["x", "y"], ("read", [], 0, runs)), put_numbers(desk, late, both, {"#0": 3, "#1": 0}, {"x": 1, "y": 1}), is_put_rule(desk, [], late, ("c",), [], {})]
+# [True, False, {'#0': 2, '#1': 0}, True]
+"""
+
+BOOKS = """
+from truestops.benches import Bench
+from truestops.books import Book, honest_change, honest_stirs, is_lying, is_true, is_why_not_honest, lying_course, walked
+from truestops.programs import Program
+from truestops.rows import Rows
+plain = Program(5, [], [], (["x"], [("read", "a", "x"), ("pass", "s"), ("print", "b", {"x": 1})]))
+bench = Bench(plain, Rows(5, 1, {"main": (0, [("read", 0), ("mark", "m", [("s",)]), ("print", 0), ("end",)])}))
+seen, good, bad = ("read", ("m", ()), ("s",), {"x": 1}, {"#0": 1}), ("change", ("m", ()), ("s",), {"x": 1}, {"#0": 1}), ("change", ("m", ()), ("s",), {"x": 1}, {"#0": 2})
+[is_true(Book(bench, [seen, good])), honest_change(bench, [seen], ("m", ()), ("s",), {"x": 1}), honest_stirs(bench, [], ("m", ()), ("s",))]
+# [True, {'#0': 1}, [{'x': 1}]]
+false = Book(bench, [seen, bad])
+[is_true(false), is_lying(false, lying_course(false)), len(lying_course(false)), walked(false, [("number", 3), ("move", 1, 1)])]
+# [False, True, 2, [('read', 0, 0, 4), ('printed', 0, 4)]]
+double = Program(5, [], [], (["x", "y"], [("read", "a", "x"), ("set", "b", "y", {"x": 1}), ("pass", "s"), ("print", "c", {"x": 1}), ("print", "d", {"y": 1})]))
+both = Bench(double, Rows(5, 1, {"main": (0, [("read", 0), ("mark", "m", [("s",)]), ("print", 0), ("print", 0), ("end",)])}))
+[honest_change(both, [], ("m", ()), ("s",), {"x": 1}), is_why_not_honest(both, [], ("m", ()), ("s",), {"x": 1}, [([], 0, 1), ([], 1, 4)]), honest_stirs(both, [], ("m", ()), ("s",))]
+# [None, True, [{'x': 1, 'y': 1}]]
+"""
+
 
 def statements(block):
     """The lines of a block; a function's lines are one statement."""
@@ -228,6 +298,18 @@ class Examples(unittest.TestCase):
 
     def test_section_13(self):
         self.block(READING, 3)
+
+    def test_section_14(self):
+        self.block(MOVING, 3)
+
+    def test_section_15(self):
+        self.block(PIECES, 3)
+
+    def test_section_16(self):
+        self.block(PUTTING, 2)
+
+    def test_section_17(self):
+        self.block(BOOKS, 3)
 
 
 if __name__ == "__main__":

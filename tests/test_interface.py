@@ -3,7 +3,10 @@
 import inspect
 import unittest
 
-from truestops import alike, benches, errors, flows, making, numbers, programs, reading, rewriting, rows, seen, spans
+from truestops import (
+    alike, benches, books, errors, flows, making, moving, numbers, pieces, programs, putting, reading, rewriting, rows, seen,
+    spans,
+)
 
 LISTED = {
     numbers: [
@@ -60,11 +63,39 @@ LISTED = {
         "past_rule(bench, earlier, stop, mark, wanted)", "is_past_rule(bench, earlier, stop, mark, wanted, value)",
         "past_runs(bench, earlier, stop, mark, wanted)", "are_past_runs(bench, earlier, stop, mark, wanted, value)",
     ],
+    moving: [
+        "change_for(bench, mark, stop, stir)", "is_change_for(bench, mark, stop, stir, value)",
+        "movable_stirs(bench, mark, stop)", "why_unmoved(bench, mark, stop, stir)",
+        "is_why_unmoved(bench, mark, stop, stir, value)", "common_change(bench, mark, stirs)",
+        "is_common_change(bench, mark, stirs, value)", "why_no_common(bench, mark, stirs)",
+        "is_why_no_common(bench, mark, stirs, value)", "change_with_knobs(bench, mark, stop, stir, knobs_told)",
+        "is_change_with_knobs(bench, mark, stop, stir, knobs_told, value)", "fewest_knobs(bench, mark, stop, stirs)",
+        "knobs(bench, mark, stop, stirs)", "are_knobs(bench, mark, stop, stirs, value)",
+        "moved_run(bench, mark, stop, stir, change, amount, inputs)",
+    ],
+    pieces: [
+        "piece_stirs(bench, mark, stop)", "by_pieces(bench, mark, stop, stir)", "first_piece(bench, mark, stop, stir)",
+        "is_first_piece(bench, mark, stop, stir, value)", "next_marks(bench, mark, stop)",
+        "carried(bench, mark, stop, stir, letters)", "piece_ladder(bench, mark, stop, stir)",
+        "is_piece_ladder(bench, mark, stop, stir, value)",
+    ],
+    putting: [
+        "put_rule(bench, readings, mark, stop, names)", "is_put_rule(bench, readings, mark, stop, names, value)",
+        "counted_sums(bench, readings, mark, stop, names)", "why_unput(bench, readings, mark, stop, names)",
+        "is_why_unput(bench, readings, mark, stop, names, value)", "put_numbers(bench, mark, rule, holders, wishes)",
+    ],
+    books: [
+        "Book(bench, lines)", "is_honest(bench, readings, line)", "honest_change(bench, readings, mark, stop, stir)",
+        "honest_stirs(bench, readings, mark, stop)", "why_not_honest(bench, readings, mark, stop, stir)",
+        "is_why_not_honest(bench, readings, mark, stop, stir, value)", "walked(book, course)", "is_lying(book, value)",
+        "is_true(book)", "lying_course(book)", "greatest_book(bench, readings)", "joined(one, other)",
+    ],
 }
 METHODS = {
     programs.Program: ["prime(self)", "shared(self)", "procedures(self)", "body(self)", "__eq__(self, other)"],
     rows.Rows: ["prime(self)", "boxes(self)", "units(self)", "__eq__(self, other)"],
     benches.Bench: ["program(self)", "rows(self)", "__eq__(self, other)"],
+    books.Book: ["bench(self)", "lines(self)", "__eq__(self, other)"],
 }
 
 

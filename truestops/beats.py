@@ -107,12 +107,17 @@ class Beats:
 
     def __init__(self, flow):
         self.flow = flow
+        self.modulus = flow.modulus
         self.tour = None
         self.sight = None
+        self.seen = {}
         self._known = {}
 
     def asked_there(self, place):
         return asked_at(self.flow, place)
+
+    def first(self):
+        return self.rest(self.flow.start)
 
     def rest(self, place):
         """The beat from a place on; at the start nothing lives, and the whole first beat is made."""

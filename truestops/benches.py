@@ -7,6 +7,7 @@ from truestops.errors import (
     InvalidInputs,
     NeverPassed,
     NotAlike,
+    OutOfOrder,
     Stray,
     Uneven,
     UnknownMark,
@@ -14,6 +15,7 @@ from truestops.errors import (
     UnlikePrimes,
 )
 from truestops.forms import is_number
+from truestops.joints import Joints
 from truestops.passings import Passings
 from truestops.programs import require_program
 from truestops.rows import require_rows
@@ -22,7 +24,8 @@ from truestops.walks import walked_on
 
 
 class Bench:
-    """A program and rows that never change. `passings` tells what their tour shows of the marks."""
+    """A program and rows that never change. `passings` tells what their tour shows of the marks, `joints` how both go
+    from asking to asking side by side, `told` likewise for readings."""
 
     def __init__(self, program, rows):
         require_program(program)
@@ -35,6 +38,8 @@ class Bench:
         self._program = program
         self._rows = rows
         self.passings = Passings(rows.flow, tour)
+        self.joints = Joints(program, rows, self.passings, {})
+        self.told = {}
 
     def program(self):
         return self._program
@@ -51,6 +56,13 @@ class Bench:
 def require_bench(bench):
     if not isinstance(bench, Bench):
         raise InvalidBench(bench)
+
+
+def require_ordered(bench):
+    """The errors of a bench whose marks have to be in order."""
+    require_bench(bench)
+    if bench.passings.turned() is not None:
+        raise OutOfOrder(bench)
 
 
 def require_mark(bench, mark):

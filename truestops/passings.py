@@ -67,6 +67,7 @@ class Passings:
         self.beats = [(going.inputs, passings_in(flow, going)) for going in tour.goings if going.fresh]
         self._words = {}
         self._runs = {}
+        self._seats = None
 
     def of_mark(self, mark):
         """The tuples (inputs, passing) of a mark, the least inputs of each beat, in order."""
@@ -105,6 +106,13 @@ class Passings:
         """The ascending list of the stops that some run passes with a true mark."""
         found = {passing.stops[0][0]: True for _, passing in self.of_mark(mark)}
         return sorted(found)
+
+    def true_seats(self):
+        """The ascending list of the tuples (mark, stop) of all true marks and the stops that are passed with them."""
+        if self._seats is None:
+            marks = [mark for mark in sorted(self.flow.passing_places) if self.is_true(mark)]
+            self._seats = [(mark, stop) for mark in marks for stop in self.stops_with(mark)]
+        return self._seats
 
     def runs_to(self, mark, stop):
         """Runs to a true mark at a stop, with the numbers of all variables there, of which all others are mixtures."""

@@ -5,6 +5,8 @@ finitely many: letters are set ahead of them as long as that brings new ones.
 """
 
 from truestops.beats import branches
+from truestops.errors import InvalidInputs
+from truestops.forms import is_count, letter_fits
 from truestops.hulls import Hull
 from truestops.vectors import added_up
 
@@ -39,7 +41,7 @@ class Sight:
 
     def __init__(self, beats, places):
         self.beats = beats
-        self.modulus = beats.flow.modulus
+        self.modulus = beats.modulus
         self.found = {}
         self._hulls = {}
         self._leads = {}
@@ -89,21 +91,60 @@ class Sight:
 def sight_of(beats):
     """The sight of all asking places that some run comes to, made once. It needs no numbers."""
     if beats.sight is None:
-        first = beats.rest(beats.flow.start)
+        first = beats.first()
         beats.sight = Sight(beats, [first.place] if first.asks() else [])
     return beats.sight
 
 
 def seen_from(beats, place):
     """What is seen from a place that some run comes to: as few numbers as all others are put together of."""
+    if place not in beats.seen:
+        beats.seen[place] = all_seen_from(beats, place)
+    return beats.seen[place]
+
+
+def all_seen_from(beats, place):
     rest = beats.rest(place)
-    modulus = beats.flow.modulus
     told = printed_in(rest, [])
     if rest.asks():
-        told.extend([ahead_of(modulus, rest, seen, []) for seen in sight_of(beats).found[rest.place]])
-    hull = Hull(modulus)
+        told.extend([ahead_of(beats.modulus, rest, seen, []) for seen in sight_of(beats).found[rest.place]])
+    hull = Hull(beats.modulus)
     found = []
     for seen in told:
         if hull.take_in(seen.factors):
             found.append(seen)
     return found
+
+
+def beats_along(beats, place, letters):
+    """The rest of the beat at a place, and the beats behind the letters of a list, all of which have to fit."""
+    along = [beats.rest(place)]
+    for position, letter in enumerate(letters):
+        if not letter_fits(beats.modulus, along[-1].asked, letter):
+            raise InvalidInputs(position)
+        along.append(beats.behind(along[-1].place, letter))
+    return along
+
+
+def drawn_along(modulus, beats, factors):
+    """The factors of a number behind several beats, by the holders where the first one begins."""
+    for beat in reversed(beats):
+        factors = drawn_back(modulus, beat, factors)
+    return factors
+
+
+def factors_at(beats, place, going_on, position):
+    """The factors of the number at a position of a going-on from a place; None if any objects tell no such number."""
+    if type(going_on) is not list or not is_count(position):
+        return None
+    try:
+        along = beats_along(beats, place, going_on)
+    except InvalidInputs:
+        return None
+    ahead = []
+    for beat in along:
+        if position < len(beat.prints):
+            return drawn_along(beats.modulus, ahead, beat.prints[position][:beat.width])
+        position -= len(beat.prints)
+        ahead.append(beat)
+    return None

@@ -38,12 +38,12 @@ class Turn:
 
 
 def first_turn(beats):
-    return Turn(beats.flow.modulus, beats.rest(beats.flow.start), [0, 1])
+    return Turn(beats.modulus, beats.first(), [0, 1])
 
 
 def next_turn(beats, place, numbers, letter):
     """The turn behind a letter at an asking place where the holders hold these numbers."""
-    return Turn(beats.flow.modulus, beats.behind(place, letter), numbers + [number_of(letter), 1])
+    return Turn(beats.modulus, beats.behind(place, letter), numbers + [number_of(letter), 1])
 
 
 def print_alike(turns):
@@ -97,7 +97,7 @@ class Tour:
     """
 
     def __init__(self, all_beats):
-        self.modulus = all_beats[0].flow.modulus
+        self.modulus = all_beats[0].modulus
         self.goings = []
         self.kept = []
         self.parting = None
