@@ -2,6 +2,7 @@
 
 import copy
 import itertools
+import re
 import unittest
 
 
@@ -32,11 +33,15 @@ class Checks(unittest.TestCase):
         """What is returned, or was handed, may be changed: the call answers the same again, and hurts no argument."""
         handed = [copy.deepcopy(thing) if isinstance(thing, (list, dict, tuple)) else thing for thing in args]
         told = function(*args)
-        self.assertEqual(repr([thing for thing in args if isinstance(thing, (list, dict, tuple))]),
-                         repr([thing for thing in handed if isinstance(thing, (list, dict, tuple))]))
-        shown = repr(told)
+        self.assertEqual(*[[shown(thing) for thing in things if isinstance(thing, (list, dict, tuple))] for things in (args, handed)])
+        before = shown(told)
         spoil(told)
-        self.assertEqual(repr(function(*args)), shown)
+        self.assertEqual(shown(function(*args)), before)
+
+
+def shown(thing):
+    """A thing's text, without the places of objects."""
+    return re.sub(" at 0x[0-9a-f]+", "", repr(thing))
 
 
 def spoil(thing):

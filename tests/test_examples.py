@@ -231,6 +231,79 @@ both = Bench(double, Rows(5, 1, {"main": (0, [("read", 0), ("mark", "m", [("s",)
 # [None, True, [{'x': 1, 'y': 1}]]
 """
 
+EXCHANGE = """
+from truestops.benches import Bench
+from truestops.exchange import chained, exchange_rule, fits, is_sure_rule, is_why_no_exchange, missed
+from truestops.programs import Program
+from truestops.rows import Rows
+echo = Program(5, ["a", "b"], [], ([], [("read", "q", "a"), ("read", "r", "b"), ("pass", "s"), ("print", "t", {"a": 1, "b": 1})]))
+lone = Rows(5, 2, {"main": (0, [("read", 0), ("read", 1), ("add", 0, 1), ("set", 1, 0), ("mark", "m", [("s",)]), ("print", 0), ("end",)])})
+pair = Rows(5, 2, {"main": (0, [("read", 0), ("read", 1), ("mark", "n", [("s",)]), ("add", 1, 0), ("print", 1), ("end",)])})
+here, there = (Bench(echo, lone), ("m", ()), ("s",)), (Bench(echo, pair), ("n", ()), ("s",))
+[fits(here, {"#0": 3, "#1": 4, "a": 1, "b": 2}), fits(there, {"#0": 0, "#1": 2, "a": 1, "b": 2}), missed(there), exchange_rule(there, here, None)["#0"]]
+# [True, False, None, {'#0': 1, '#1': 1}]
+[chained(5, {"#0": {"": 2}, "#1": {"#0": 1}}, {"#0": {"#0": 1, "#1": 3}})]
+# [{'#0': {'': 2, '#0': 3}}]
+some = Program(5, ["x"], [], ([], [("read", "u", "x"), ("pass", "v"), ("print", "w", {"x": 1})]))
+next_one = (Bench(some, Rows(5, 1, {"main": (0, [("read", 0), ("mark", "k", [("v",)]), ("print", 0), ("end",)])})), ("k", ()), ("v",))
+lots = [({"#0": 1, "#1": 0, "a": 1, "b": 0}, 1), ({"#0": 1, "#1": 0, "a": 0, "b": 1}, 4)]
+[exchange_rule(here, next_one, {"x": {"a": 1, "b": 1}}), is_why_no_exchange(here, next_one, {"x": {"a": 1}}, ("ahead", lots, [], 0)), is_sure_rule(here, {"a": 2, "b": 2}, {"#0": 2})]
+# [{'#0': {'#0': 1}}, True, True]
+"""
+
+SESSIONS = """
+from truestops.benches import Bench
+from truestops.programs import Program
+from truestops.rows import Rows
+from truestops.sessions import Session, opened
+both = Program(5, ["x", "y"], [], ([], [("read", "a", "x"), ("read", "b", "y"), ("pass", "s"), ("print", "p", {"x": 1, "y": 1})]))
+one = [("read", 0), ("read", 1), ("add", 0, 1), ("set", 1, 0), ("mark", "m", [("s",)]), ("print", 0), ("end",)]
+bench = Bench(both, Rows(5, 2, {"main": (0, one)}))
+session, sum_of_both = Session(bench), {"x": 1, "y": 1}
+[session.go(), session.answer(("number", 2)), session.go(), session.answer(("number", 4)), session.go()]
+# [('number',), None, ('number',), None, ('mark', ('m', ()), ('s',))]
+[session.read({"x": 1}), session.read(sum_of_both), session.move({"x": 1}), session.read(sum_of_both), session.suppose({"y": 2})]
+# [None, 1, None, 2, None]
+[session.read(sum_of_both), session.go(), session.beats(), session.would()]
+# [4, ('end',), [[], [], [2]], [[], [], [4]]]
+later = opened(bench, (("m", ()), {"#0": 3, "#1": 0}), ("s",))
+[later.put({"x": 4, "y": 3}), later.read(sum_of_both), later.go(), later.beats()]
+# [None, 2, ('end',), [[2]]]
+"""
+
+SCRIPTS = """
+from truestops.benches import Bench
+from truestops.programs import Program
+from truestops.rows import Rows
+from truestops.scripts import play, read_script, script_text, trimmed
+from truestops.sessions import Session
+watch = Bench(Program(5, [], [], (["x"], [("read", "a", "x"), ("pass", "s"), ("print", "b", {"x": 1})])), Rows(5, 1, {"main": (0, [("read", 0), ("mark", "m", [("s",)]), ("print", 0), ("end",)])}))
+day = [("move", {"x": 1}), ("go",), ("number", 3), ("go",), ("move", {"x": 1}), ("read", {"x": 1}), ("go",), ("would",)]
+play(Session(watch), [], day)
+# [('refused', 'NotHere'), ('here', ('number',)), ('done',), ('here', ('mark', ('m', ()), ('s',))), ('done',), ('read', 4), ('here', ('end',)), ('would', [[], [4]])]
+[script_text(day).split(chr(10))[4:6], read_script(script_text(day)) == day, trimmed(watch, [], [("go",), ("here",), ("number", 3), ("beats",)])]
+# [['move 1 x', 'read 1 x'], True, [('go',), ('number', 3)]]
+"""
+
+TEXTS = """
+from truestops.benches import Bench
+from truestops.books import Book
+from truestops.programs import Program
+from truestops.rows import Rows
+from truestops.texts import dump_text, exchange_text, lines_text, mark_text, read_exchange, read_lines, read_mark, read_path, read_rows, read_sum, rows_text, sum_text
+[sum_text({"": 3, "c.x": 1, "#0": 2}), read_sum("0 x + 4 y"), read_sum("0"), mark_text(("m", ("c", "d"))), read_mark("m in -"), read_path("c.u")]
+# ['2 #0 + 1 c.x + 3', {'x': 0, 'y': 4}, {}, 'm in c.d', ('m', ()), ('c', 'u')]
+lone = Rows(5, 1, {"main": (0, [("read", 0), ("mark", "m", [("s",)]), ("print", 0), ("end",)])})
+[rows_text(lone).split(chr(10)), read_rows(rows_text(lone)) == lone]
+# [['prime 5', 'boxes 1', 'unit main 0', '  read 0', '  mark m s', '  print 0', '  end'], True]
+[exchange_text({"#0": {"": 2, "#0": 1}, "#1": {}}), read_exchange("-"), dump_text((("m", ()), {"#0": 0, "@0.0": 3}))]
+# ['#0 = 1 #0 + 2; #1 = 0', {}, 'm in -: #0 = 0; @0.0 = 3']
+echo = Bench(Program(5, ["x"], [], ([], [("read", "r", "x"), ("pass", "s"), ("print", "t", {"x": 1})])), lone)
+book = Book(echo, [("read", ("m", ()), ("s",), {"x": 1}, {"#0": 1}), ("change", ("m", ()), ("s",), {"x": 1}, {"#0": 1})])
+[lines_text(book).split(chr(10)), read_lines(echo, lines_text(book)) == book]
+# [['read m in - at s: 1 x = 1 #0', 'change m in - at s: 1 x by 1 #0'], True]
+"""
+
 
 def statements(block):
     """The lines of a block; a function's lines are one statement."""
@@ -310,6 +383,18 @@ class Examples(unittest.TestCase):
 
     def test_section_17(self):
         self.block(BOOKS, 3)
+
+    def test_section_18(self):
+        self.block(EXCHANGE, 3)
+
+    def test_section_19(self):
+        self.block(SESSIONS, 4)
+
+    def test_section_20(self):
+        self.block(SCRIPTS, 2)
+
+    def test_section_21(self):
+        self.block(TEXTS, 4)
 
 
 if __name__ == "__main__":

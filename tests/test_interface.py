@@ -4,8 +4,8 @@ import inspect
 import unittest
 
 from truestops import (
-    alike, benches, books, errors, flows, making, moving, numbers, pieces, programs, putting, reading, rewriting, rows, seen,
-    spans,
+    alike, benches, books, errors, exchange, flows, making, moving, numbers, pieces, programs, putting, reading, rewriting, rows,
+    scripts, seen, sessions, spans, texts,
 )
 
 LISTED = {
@@ -90,11 +90,33 @@ LISTED = {
         "is_why_not_honest(bench, readings, mark, stop, stir, value)", "walked(book, course)", "is_lying(book, value)",
         "is_true(book)", "lying_course(book)", "greatest_book(bench, readings)", "joined(one, other)",
     ],
+    exchange: [
+        "fits(one, state)", "exchange_rule(one, other, links)", "is_exchange_rule(one, other, links, value)", "missed(one)",
+        "why_no_exchange(one, other, links)", "is_why_no_exchange(one, other, links, value)", "sure_rule(one, wanted)",
+        "is_sure_rule(one, wanted, value)", "chained(prime, first, second)",
+    ],
+    sessions: [
+        "is_dump(bench, value)", "Session(bench)", "opened(bench, dump, stop)", "replayed(session, log)",
+    ],
+    scripts: [
+        "play(session, benches, script)", "script_text(script)", "read_script(text)", "end_of(bench, benches, script)",
+        "trimmed(bench, benches, script)",
+    ],
+    texts: [
+        "sum_text(wanted)", "read_sum(text)", "path_text(path)", "read_path(text)", "mark_text(mark)", "read_mark(text)",
+        "rows_text(rows)", "read_rows(text)", "exchange_text(rule)", "read_exchange(text)", "dump_text(dump)",
+        "read_dump(text)", "lines_text(book)", "read_lines(bench, text)",
+    ],
 }
 METHODS = {
     programs.Program: ["prime(self)", "shared(self)", "procedures(self)", "body(self)", "__eq__(self, other)"],
     rows.Rows: ["prime(self)", "boxes(self)", "units(self)", "__eq__(self, other)"],
     benches.Bench: ["program(self)", "rows(self)", "__eq__(self, other)"],
+    sessions.Session: [
+        "here(self)", "bench(self)", "go(self)", "answer(self, letter)", "beats(self)", "would(self)", "read(self, wanted)",
+        "move(self, stir)", "suppose(self, stir)", "put(self, wishes)", "exchange(self, other, mark)", "dump(self)",
+        "log(self)", "undo(self)", "redo(self)", "trial(self)", "attempt(self, action)", "copy(self)",
+    ],
     books.Book: ["bench(self)", "lines(self)", "__eq__(self, other)"],
 }
 

@@ -25,7 +25,8 @@ from truestops.walks import walked_on
 
 class Bench:
     """A program and rows that never change. `passings` tells what their tour shows of the marks, `joints` how both go
-    from asking to asking side by side, `told` likewise for readings."""
+    from asking to asking side by side, `told` and `known` likewise for readings, `fits` from which states they go on
+    alike."""
 
     def __init__(self, program, rows):
         require_program(program)
@@ -40,6 +41,8 @@ class Bench:
         self.passings = Passings(rows.flow, tour)
         self.joints = Joints(program, rows, self.passings, {})
         self.told = {}
+        self.known = {}
+        self.fits = {}
 
     def program(self):
         return self._program

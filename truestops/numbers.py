@@ -10,6 +10,7 @@ from truestops.vectors import (
     factors_for,
     inverse_of,
     meeting,
+    middle_of,
     product_of,
 )
 
@@ -100,16 +101,7 @@ def require_between(prime, first, second, wanted):
 
 def between(prime, first, second, wanted):
     require_between(prime, first, second, wanted)
-    inner, outer = len(first[0]), len(second[0])
-    # The middle vectors are found column by column, by one and the same reckoning: so they are sums of the
-    # wanted ones, and second adds up to them wherever it adds up to the wanted ones at all.
-    columns = [meeting(prime, first, column, inner) for column in columns_of(wanted, outer)]
-    if any([column is None for column in columns]):
-        return None
-    found = [factors_for(prime, second, vector) for vector in columns_of(columns, inner)]
-    if any([vector is None for vector in found]):
-        return None
-    return found
+    return middle_of(prime, first, second, wanted, len(first[0]), len(second[0]))
 
 
 def is_between(prime, first, second, wanted, value):

@@ -4,12 +4,13 @@ from truestops.benches import require_seat, require_true_mark
 from truestops.books import require_bench_and_readings, seat_along
 from truestops.engines import is_known_sum, state_of, sum_of, vector_of
 from truestops.errors import InvalidAmounts, InvalidDump, InvalidRule, InvalidSum, UnknownHolder
-from truestops.forms import is_number, is_state, is_sum
+from truestops.forms import is_state, is_sum
 from truestops.reading import question_at
 from truestops.seats import told_bar
 from truestops.sights import factors_at
 from truestops.vectors import basis_of, meeting, product_of
 from truestops.walks import reckoned
+from truestops.wishing import are_wishes
 
 
 def is_list_of_unlike_strings(value):
@@ -192,12 +193,6 @@ def is_put_rule_of_any(prime, value, holders):
         if not all([key in keys or (key.startswith("=") and key != "=") for key in wanted]):
             return False
     return True
-
-
-def are_wishes(prime, value):
-    if type(value) is not dict or not all([type(key) is str and key != "" for key in value]):
-        return False
-    return all([is_number(prime, number) for number in value.values()])
 
 
 def require_numbers(bench, mark, rule, holders, wishes):

@@ -144,14 +144,19 @@ def are_read_runs(bench, mark, stop, wanted, value):
     return question_at(bench, mark, stop).is_paper(wanted, value)
 
 
+def readable_vectors(question):
+    """The reduced basis of all sums of the variables that a question has a rule for, as vectors."""
+    vectors = [run.variables + run.holders + [1] for run in question.runs]
+    many = len(question.runs[0].variables)
+    # What is 0 in all runs tells a sum of variables by holders and 1.
+    always_zero = crossing(question.modulus, vectors, len(vectors[0]))
+    return basis_of(question.modulus, [zero[:many] for zero in always_zero])
+
+
 def readable(bench, mark, stop):
     require_seat(bench, mark, stop)
-    prime = bench.rows().prime()
-    variables = variables_at(bench, stop)
-    vectors = [run.variables + run.holders + [1] for run in bench.passings.runs_to(mark, stop)]
-    # What is 0 in all runs tells a sum of variables by holders and 1.
-    always_zero = crossing(prime, vectors, len(vectors[0]))
-    return [sum_of(vector, variables) for vector in basis_of(prime, [zero[:len(variables)] for zero in always_zero])]
+    vectors = readable_vectors(question_at(bench, mark, stop))
+    return [sum_of(vector, variables_at(bench, stop)) for vector in vectors]
 
 
 def require_sums(bench, mark, stop, sums):

@@ -102,3 +102,19 @@ def crossing(prime, vectors, length):
 def factors_for(prime, vectors, wanted):
     """Any factors by which vectors add up to a wanted one, or None."""
     return meeting(prime, columns_of(vectors, len(wanted)), wanted, len(vectors))
+
+
+def middle_of(prime, first, second, wanted, inner, outer):
+    """Any list of `inner` vectors, as long as second has vectors, that stands between: each wanted vector, of length
+    `outer`, is what comes if they add up by the first one at its position, and then second adds up by that. Or None.
+
+    The middle is found column by column, by one and the same reckoning: so its columns are sums of the wanted ones,
+    and second adds up to them wherever it adds up to the wanted ones at all.
+    """
+    columns = [meeting(prime, first, column, inner) for column in columns_of(wanted, outer)]
+    if any([column is None for column in columns]):
+        return None
+    found = [factors_for(prime, second, vector) for vector in columns_of(columns, inner)]
+    if any([vector is None for vector in found]):
+        return None
+    return found
