@@ -6,16 +6,7 @@ number, then that of 1. The numbers themselves, in this order, are the beat's in
 """
 
 from truestops.vectors import added_up
-
-
-def asked_at(flow, place):
-    """What is asked for at a place, as runs tell it."""
-    point = flow.point(place)
-    if point[0] == "read":
-        return ("number",)
-    if point[0] == "pick":
-        return ("choice", len(point[1]))
-    return ("end",)
+from truestops.walks import PASSES, PRINTS, SETS, asked_by, stretch_from
 
 
 def branches(asked):
@@ -45,61 +36,61 @@ def unit_vector(width, at):
 
 class Beat:
     """One beat. `way` lists the places that it comes to, the last one, `place`, too, which asks or is the end.
-    `width` is the number of the holders where it begins, `key` tells it from all other beats of its flow."""
+    `width` is the number of the holders where it begins, `key` tells it from all other beats of its flow, and so does
+    the count `number`; `leads` are the beats behind it that were asked for, by the branches of letters. `spot` is a
+    count that tells where it ends from where others of its flow do."""
 
-    def __init__(self, key, width, way, prints, passes, after, asked):
+    def __init__(self, key, width, stretch, prints, passes, after):
         self.key = key
+        self.number = 0
+        self.spot = 0
+        self.leads = {}
         self.width = width
-        self.way = way
-        self.place = way[-1]
+        self.way = stretch.way
+        self.place = stretch.place
         self.prints = prints
         # Tuples (where, vectors of the holders that live there, ascending, how many numbers are printed by then).
         self.passes = passes
         self.after = after
-        self.asked = asked
+        self.asked = stretch.asked
 
     def asks(self):
         return self.asked[0] != "end"
 
 
 class BeatMaker:
-    """Makes one beat of a flow, from a place on, with the vectors of the holders that live there."""
+    """Makes one beat of a flow: what a stretch does with the vectors of the holders that live where it begins."""
 
-    def __init__(self, flow, place, vectors, width):
+    def __init__(self, flow, stretch, vectors, width):
         self.flow = flow
-        self.place = place
-        self.vectors = {**vectors, "": unit_vector(width, width - 1)}
+        self.stretch = stretch
+        self.vectors = vectors
         self.width = width
-        self.prints = []
-        self.passes = []
 
-    def sum_of(self, wanted):
-        vectors = [self.vectors[name] for name in wanted]
-        return added_up(self.flow.modulus, vectors, list(wanted.values()), self.width)
-
-    def state(self):
-        return [self.vectors[holder] for holder in self.flow.living(self.place)]
+    def sum_of(self, constant, more):
+        # Most sums are what one holder holds. Vectors are never changed, so they may be one and the same.
+        if len(more) == 1 and constant == 0 and more[0][1] == 1:
+            return self.vectors[more[0][0]]
+        vectors = [self.vectors[name] for name, _ in more]
+        total = added_up(self.flow.modulus, vectors, [factor for _, factor in more], self.width)
+        total[-1] = (total[-1] + constant) % self.flow.modulus
+        return total
 
     def made(self, key):
-        way = [self.place]
-        point = self.flow.point(self.place)
-        while point[0] not in ("read", "pick", "end"):
-            self._carry_out(point)
-            self.place = point[-1]
-            way.append(self.place)
-            point = self.flow.point(self.place)
-        return Beat(key, self.width - 2, way, self.prints, self.passes, self.state(), asked_at(self.flow, self.place))
-
-    def _carry_out(self, point):
-        if point[0] == "live":
-            for holder in point[1]:
-                self.vectors[holder] = [0] * self.width
-        elif point[0] == "set":
-            self.vectors[point[1]] = self.sum_of(point[2])
-        elif point[0] == "print":
-            self.prints.append(self.sum_of(point[1]))
-        elif point[0] == "pass":
-            self.passes.append((point[1], self.state(), len(self.prints)))
+        prints = []
+        passes = []
+        for kind, told, constant, more in self.stretch.steps:
+            if kind == SETS:
+                self.vectors[told] = self.sum_of(constant, more)
+            elif kind == PRINTS:
+                prints.append(self.sum_of(constant, more))
+            elif kind == PASSES:
+                passes.append((told, [self.vectors[holder] for holder in more], len(prints)))
+            else:
+                for holder in more:
+                    self.vectors[holder] = [0] * self.width
+        after = [self.vectors[holder] for holder in self.flow.living(self.stretch.place)]
+        return Beat(key, self.width - 2, self.stretch, prints, passes, after)
 
 
 class Beats:
@@ -112,9 +103,10 @@ class Beats:
         self.sight = None
         self.seen = {}
         self._known = {}
+        self._spots = {}
 
     def asked_there(self, place):
-        return asked_at(self.flow, place)
+        return asked_by(self.flow.point(place))
 
     def first(self):
         return self.rest(self.flow.start)
@@ -139,6 +131,13 @@ class Beats:
                 self._known[key] = self._made_from(key, point[2], point[1])
         return self._known[key]
 
+    def next_beat(self, beat, letter):
+        """The beat behind a letter that is given behind one."""
+        branch = letter[1] if beat.asked[0] == "choice" else 0
+        if branch not in beat.leads:
+            beat.leads[branch] = self.behind(beat.place, letter)
+        return beat.leads[branch]
+
     def _made_from(self, key, begin, reader):
         """The beat that begins at a place, by the holders at that of its key, perhaps one with the number read."""
         place = key[0]
@@ -147,4 +146,8 @@ class Beats:
         vectors = {holder: unit_vector(width, at) for at, holder in enumerate(holders)}
         if reader is not None:
             vectors[reader] = unit_vector(width, width - 2)
-        return BeatMaker(self.flow, begin, vectors, width).made(key)
+        stretch = stretch_from(self.flow, begin)
+        beat = BeatMaker(self.flow, stretch, vectors, width).made(key)
+        beat.number = len(self._known)
+        beat.spot = self._spots.setdefault(beat.place, len(self._spots))
+        return beat

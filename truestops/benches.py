@@ -20,13 +20,13 @@ from truestops.passings import Passings
 from truestops.programs import require_program
 from truestops.rows import require_rows
 from truestops.vectors import columns_of, meeting, product_of
-from truestops.walks import walked_on
+from truestops.walks import Walk
 
 
 class Bench:
     """A program and rows that never change. `passings` tells what their tour shows of the marks, `joints` how both go
-    from asking to asking side by side, `told` and `known` likewise for readings, `fits` from which states they go on
-    alike."""
+    from asking to asking side by side, `told` and `known` likewise for readings, `pasts` the questions for what was,
+    `fits` the states that go on alike; all these are found out once."""
 
     def __init__(self, program, rows):
         require_program(program)
@@ -42,6 +42,7 @@ class Bench:
         self.joints = Joints(program, rows, self.passings, {})
         self.told = {}
         self.known = {}
+        self.pasts = {}
         self.fits = {}
 
     def program(self):
@@ -181,32 +182,31 @@ def where_point(bench, mark, stop):
     return (mine, others)
 
 
-def last_beats(bench, inputs):
-    """What program and rows pass in the last beat of a run, as tuples (where, state, many); None if letters do not
-    fit."""
+def walk_of(engine, inputs):
+    """The run of an engine on any inputs, or None if they do not fit."""
     try:
-        walks = [walked_on(engine.flow, inputs)[0] for engine in [bench.program(), bench.rows()]]
+        return Walk(engine.flow, inputs)
     except InvalidInputs:
         return None
-    return [walk.passed for walk in walks]
-
-
-def state_passed(passed, where):
-    for told, state, _ in passed:
-        if told == where:
-            return state
-    return None
 
 
 def machine_at(bench, mark, inputs):
     """The tuple of the stop, of those of a true mark, at which a run passes it in its last beat, and of the numbers of
     the holders there; None if it does not."""
-    beats = last_beats(bench, inputs)
-    state = None if beats is None else state_passed(beats[1], mark)
+    walk = walk_of(bench.rows(), inputs)
+    state = None if walk is None else walk.state_passed(mark)
     if state is None:
         return None
     stops = bench.rows().flow.stops_of(mark)
-    return ([told for told, _, _ in beats[0] if told in stops][0], list(state.values()))
+    return ([told for told in stops_passed(bench.program(), inputs) if told in stops][0], list(state.values()))
+
+
+def stops_passed(program, inputs):
+    """The stops that a program passes in the last beat of a run on inputs that fit. The numbers mean nothing."""
+    beat = program.beats.first()
+    for letter in inputs:
+        beat = program.beats.behind(beat.place, letter)
+    return [stop for stop, _, _ in beat.passes]
 
 
 def weighed(bench, mark, stop, told, is_mine):

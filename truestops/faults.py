@@ -1,7 +1,7 @@
 """The faults of a program that has the form of one, in the order of its text."""
 
 from truestops.leading import led_to
-from truestops.opening import Flow, Sizes, table_of
+from truestops.opening import Sizes, Stops, table_of
 from truestops.statements import blocks_of, changed_by, sums_of
 
 MOST_PLACES = 60
@@ -39,8 +39,13 @@ class Search:
         self.spots = 0
         self._labels = {}
         self._table = table_of(procedures)
-        leads = {name: names_called(self._table[name][2]) for name in self._table}
-        self._led = {name: led_to(leads, name) for name in leads}
+        self._leads = None
+
+    def _is_led_to(self, name, owner):
+        """Whether calls lead from a procedure to one."""
+        if self._leads is None:
+            self._leads = {told: names_called(self._table[told][2]) for told in self._table}
+        return owner in led_to(self._leads, name)
 
     def next_spot(self):
         self.spots += 1
@@ -61,8 +66,11 @@ class Search:
     def go_through_block(self, block, sight, owner, label, spot):
         """Goes through a block of a procedure, `owner`, or of the body (None); label and spot are what it hangs on."""
         own, statements = block
-        inner = self.with_variables(sight, own, label, spot)
+        inner = self.with_variables(sight, own, label, spot) if own else sight
         for statement in statements:
+            # Only the first fault counts.
+            if self.faults:
+                return
             self.go_through_statement(statement, inner, owner)
 
     def go_through_statement(self, statement, sight, owner):
@@ -87,12 +95,12 @@ class Search:
         if len(parameters) != len(sums) or len(results) != len(variables):
             self.note(label, "call", spot)
         # The body has no name, whatever a procedure is called.
-        if owner is not None and owner in self._led[name]:
+        if owner is not None and self._is_led_to(name, owner):
             self.note(label, "ring", spot)
 
 
 def faults_of_text(shared, procedures, body):
-    """All faults but those of size, in the order of the text."""
+    """Faults but those of size, in the order of the text; behind the first one not all of them."""
     search = Search(procedures)
     sight = search.with_variables({}, shared, "", search.next_spot())
     earlier = {}
@@ -114,7 +122,6 @@ def first_fault(shared, procedures, body):
         return faults[0]
     if Sizes(table_of(procedures)).of_program(shared, body) > MOST_PLACES:
         return ("", "places", None)
-    # The prime means nothing for the number of stops.
-    if len(Flow(2, shared, procedures, body).passing_places) > MOST_STOPS:
+    if Stops(table_of(procedures)).of_block(body) > MOST_STOPS:
         return ("", "stops", None)
     return None

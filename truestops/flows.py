@@ -3,7 +3,7 @@
 from truestops.errors import InvalidCount
 from truestops.forms import is_count
 from truestops.programs import require_program
-from truestops.walks import walked_on
+from truestops.walks import Walk
 
 
 def copy_part(part):
@@ -34,11 +34,10 @@ def alive_at(program, place):
 
 def way_of(program, inputs):
     require_program(program)
-    walk, _ = walked_on(program.flow, inputs)
-    return walk.way
+    return list(Walk(program.flow, inputs).stretch.way)
 
 
 def run_flow(program, inputs):
     require_program(program)
-    walk, beats = walked_on(program.flow, inputs)
-    return (beats, walk.asking())
+    walk = Walk(program.flow, inputs)
+    return (walk.beats, walk.stretch.asked)

@@ -37,7 +37,12 @@ def is_names(value):
 def is_prime(value):
     if type(value) is not int or not 2 <= value <= GREATEST_PRIME:
         return False
-    return all([value % divisor for divisor in range(2, isqrt(value) + 1)])
+    if value % 2 == 0:
+        return value == 2
+    for divisor in range(3, isqrt(value) + 1, 2):
+        if value % divisor == 0:
+            return False
+    return True
 
 
 def require_prime(prime):

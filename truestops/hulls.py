@@ -18,9 +18,13 @@ class Hull:
         rest = self._rest_of(vector)
         if not any(rest):
             return False
-        place = [at for at, number in enumerate(rest) if number][0]
-        scale = inverse_of(self.modulus, rest[place])
-        self._led.append((place, [number * scale % self.modulus for number in rest]))
+        place = 0
+        while not rest[place]:
+            place += 1
+        if rest[place] != 1:
+            scale = inverse_of(self.modulus, rest[place])
+            rest = [number * scale % self.modulus for number in rest]
+        self._led.append((place, rest))
         return True
 
     def _rest_of(self, vector):

@@ -7,7 +7,7 @@ from truestops.engines import is_known_sum, vector_of
 from truestops.errors import InvalidCount, InvalidSum, NotAlike, UnknownStop
 from truestops.forms import is_count, require_prime
 from truestops.programs import require_program
-from truestops.reading import question_at
+from truestops.reading import question_at, variables_at
 from truestops.rowflows import change_of, name_of_box, name_of_cell
 from truestops.rowforms import MOST_CELLS, Sizes
 from truestops.rows import Rows
@@ -41,9 +41,9 @@ def own_marks(bench, stop):
 
 def unread_at(bench, mark, stop):
     """The variables in sight at a stop, ascending, that have no rule at a mark."""
-    question = question_at(bench, mark, stop)
+    known = dict(zip(variables_at(bench, stop), question_at(bench, mark, stop).are_known()))
     holders = sorted(bench.program().flow.sights[stop].values())
-    return [holder for holder in holders if question.rule({holder: 1}) is None]
+    return [holder for holder in holders if not known[holder]]
 
 
 def lets_read_all(bench, stop):

@@ -59,6 +59,28 @@ class Sizes:
         return (1 if shared else 0) + self.of_block(body) + 1
 
 
+class Stops:
+    """How many stops the blocks of a program have, with those of called procedures; these are there, without a ring."""
+
+    def __init__(self, table):
+        self.table = table
+        self.known = {}
+
+    def of_block(self, block):
+        many = len(block[1])
+        for statement in block[1]:
+            if statement[0] == "call":
+                many = many + self.of_procedure(statement[2])
+            for inner in blocks_of(statement):
+                many = many + self.of_block(inner)
+        return many
+
+    def of_procedure(self, name):
+        if name not in self.known:
+            self.known[name] = self.of_block(self.table[name][2])
+        return self.known[name]
+
+
 class Flow:
     """The points of a program, the holders alive ahead of each, and what is in sight at each stop."""
 
@@ -69,6 +91,7 @@ class Flow:
         self.alive = []
         self.sights = {}
         self.passing_places = {}
+        self.stretches = {}
         self._table = table_of(procedures)
         self._sizes = Sizes(self._table)
         self._globals = {name: name for name in shared}

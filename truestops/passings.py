@@ -123,9 +123,13 @@ class Passings:
 
     def _all_runs_to(self, mark, stop):
         found = []
-        for going in self.tour.goings:
-            variables = going.turns[0].numbers_at(stop)
-            holders = going.turns[1].numbers_at(mark)
-            if variables is not None and holders is not None:
-                found.append(Run(going.inputs, variables, holders))
-        return found
+        goings = self.tour.goings
+        for positions in self.tour.by_beats.values():
+            program, rows = goings[positions[0]].turns
+            if rows.comes_by(mark) and program.comes_by(stop):
+                found.extend(positions)
+        return [self._run_of(goings[at], mark, stop) for at in sorted(found)]
+
+    def _run_of(self, going, mark, stop):
+        program, rows = going.turns
+        return Run(going.inputs, program.numbers_at(stop), rows.numbers_at(mark))

@@ -7,7 +7,7 @@ from truestops.forms import is_names, require_prime
 from truestops.opening import Flow
 from truestops.parsing import read_parts
 from truestops.statements import are_procedures, copy_block, copy_procedures, is_block
-from truestops.walks import walked_on
+from truestops.walks import Walk
 from truestops.writing import program_lines
 
 
@@ -64,8 +64,8 @@ def require_stop(program, stop):
 
 def run_program(program, inputs):
     require_program(program)
-    walk, beats = walked_on(program.flow, inputs)
-    return (beats, walk.asking())
+    walk = Walk(program.flow, inputs)
+    return (walk.beats, walk.stretch.asked)
 
 
 def all_stops(program):
@@ -85,8 +85,7 @@ def in_sight(program, stop):
 
 def passed_stops(program, inputs):
     require_program(program)
-    walk, _ = walked_on(program.flow, inputs)
-    return walk.passed
+    return Walk(program.flow, inputs).passed()
 
 
 def program_text(program):

@@ -2,12 +2,11 @@
 
 from truestops.benches import (
     is_rule_for,
-    last_beats,
     mark_keys,
     require_seat,
     require_true_mark,
     rule_for,
-    state_passed,
+    walk_of,
 )
 from truestops.engines import holders_there, require_sum, sum_of, vector_of
 from truestops.errors import InvalidSum, NeverPassed
@@ -15,7 +14,8 @@ from truestops.forms import is_count, is_factor
 from truestops.hulls import Hull
 from truestops.passings import Run
 from truestops.pasts import Past
-from truestops.vectors import added_up, basis_of, columns_of, crossing, factors_for, product_of
+from truestops.vectors import added_up, basis_of, columns_of, crossing, eliminated, factors_for, product_of
+from truestops.walks import Walk
 
 
 def variables_at(bench, stop):
@@ -44,11 +44,12 @@ class Present:
 
     def run_on(self, inputs):
         """The run on any inputs if its last beat passes the mark so, else None."""
-        beats = last_beats(self.bench, inputs)
-        if beats is None:
+        walk = walk_of(self.bench.rows(), inputs)
+        holders = None if walk is None else walk.state_passed(self._mark)
+        if holders is None:
             return None
-        variables, holders = state_passed(beats[0], self._stop), state_passed(beats[1], self._mark)
-        if variables is None or holders is None:
+        variables = Walk(self.bench.program().flow, inputs).state_passed(self._stop)
+        if variables is None:
             return None
         return Run(inputs, list(variables.values()), list(holders.values()))
 
@@ -75,6 +76,15 @@ class Question:
 
     def rule(self, wanted):
         return rule_for(self.bench, self.mark, self.runs, self.numbers_in_runs(wanted))
+
+    def are_known(self):
+        """Whether each variable, by itself, has a rule."""
+        width = len(self.runs[0].holders) + 1
+        vectors = [run.holders + [1] + run.variables for run in self.runs]
+        table, led = eliminated(self.modulus, vectors, width)
+        # Where the holders and 1 add up to nothing each variable that they tell has to do so, too.
+        left = table[len(led):]
+        return [not any([row[at] for row in left]) for at in range(width, len(vectors[0]))]
 
     def is_rule(self, wanted, value):
         return is_rule_for(self.bench, self.mark, self.runs, self.numbers_in_runs(wanted), value)
@@ -208,7 +218,10 @@ def past_question(bench, earlier, stop, mark, wanted):
     """The question for a number at an earlier mark, behind all errors of its arguments."""
     require_seat(bench, earlier, stop)
     require_true_mark(bench, mark)
-    question = Question(Past(bench, earlier, stop, mark), mark, stop)
+    key = (earlier, stop, mark)
+    if key not in bench.pasts:
+        bench.pasts[key] = Question(Past(bench, earlier, stop, mark), mark, stop)
+    question = bench.pasts[key]
     if not question.runs:
         raise NeverPassed(mark)
     require_wanted(bench, stop, wanted)

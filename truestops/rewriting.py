@@ -4,9 +4,9 @@ from truestops.alike import tour_of
 from truestops.engines import require_engines
 from truestops.errors import InvalidCount
 from truestops.forms import is_count
-from truestops.rowforms import CHANGING, PARTS_OF_ROWS
+from truestops.idling import idle_ones
+from truestops.rowforms import PARTS_OF_ROWS
 from truestops.rows import Rows, require_rows
-from truestops.sights import seen_from
 from truestops.tours import lone_tour
 from truestops.unrolling import Unrolling
 
@@ -138,33 +138,6 @@ def lost_stops(one, other):
     require_two(one, other)
     kept = stops_passed(other)
     return sorted([stop for stop in stops_passed(one) if stop not in kept])
-
-
-def changing_places(rows):
-    """The ascending list of the places of changing rows that some run goes through."""
-    found = {}
-    for going in lone_tour(rows.beats).goings:
-        if going.fresh:
-            for place in going.turns[0].beat.way:
-                if place != rows.flow.start and rows.flow.row(place)[0] in CHANGING:
-                    found[place] = True
-    return sorted(found)
-
-
-def is_idle_place(rows, place):
-    """Whether nothing that is printed hangs on the holder that is changed at a place, behind it."""
-    _, holder, _, behind = rows.flow.point(place)
-    at = rows.flow.living(behind).index(holder)
-    return not any([seen.factors[at] for seen in seen_from(rows.beats, behind)])
-
-
-def idle_ones(rows):
-    """The ascending list of idle rows as (unit, at): a row may be come to by several paths, and be idle by some."""
-    idle = {}
-    for place in changing_places(rows):
-        key = (place[1], place[2])
-        idle[key] = idle.get(key, True) and is_idle_place(rows, place)
-    return sorted([key for key in idle if idle[key]])
 
 
 def idle_rows(rows):

@@ -3,11 +3,14 @@
 Points are those of a program's flow, so that the same walks and beats go by both.
 """
 
-from truestops.rowforms import each_row
+from truestops.rowforms import CHANGING, each_row
+
+
+BOXES = ("#0", "#1", "#2", "#3")
 
 
 def name_of_box(box):
-    return "#" + str(box)
+    return BOXES[box]
 
 
 def name_of_cell(depth, cell):
@@ -21,25 +24,24 @@ def without_noughts(modulus, wanted):
 def change_of(modulus, row, depth):
     """The holder that a changing row changes, in a frame at a depth, and the sum that the holder becomes."""
     word, first, second = row
-    box, other = name_of_box(first), name_of_box(second)
+    if word == "keep":
+        return (name_of_cell(depth, first), {name_of_box(second): 1})
+    if word == "store":
+        return (name_of_cell(0, first), {name_of_box(second): 1})
+    box = name_of_box(first)
     if word == "take":
         return (box, {name_of_cell(depth, second): 1})
     if word == "fetch":
         return (box, {name_of_cell(0, second): 1})
-    if word == "keep":
-        return (name_of_cell(depth, first), {other: 1})
-    if word == "store":
-        return (name_of_cell(0, first), {other: 1})
     if word == "copy":
-        return (box, {other: 1})
+        return (box, {name_of_box(second): 1})
     if word == "set":
         return (box, without_noughts(modulus, {"": second}))
     if word == "times":
         return (box, without_noughts(modulus, {box: second}))
     if word == "more":
         return (box, without_noughts(modulus, {box: 1, "": second}))
-    wanted = {box: 2} if first == second else {box: 1, other: 1}
-    return (box, without_noughts(modulus, wanted))
+    return (box, without_noughts(modulus, {box: 2})) if first == second else (box, {box: 1, name_of_box(second): 1})
 
 
 class RowFlow:
@@ -50,10 +52,12 @@ class RowFlow:
         self.start = ((), "", 0)
         self.paths = {}
         self.passing_places = {}
+        self.stretches = {}
         self._units = units
         self._boxes = [name_of_box(box) for box in range(boxes)]
         self._living = {}
         self._returns = {}
+        self._stops = {}
         self._points = {}
         self._open((), "main", self._boxes)
 
@@ -77,8 +81,11 @@ class RowFlow:
         return each_row(self._units)
 
     def stops_of(self, mark):
-        """The stops of a mark, ascending: the path, and each of its row's tuples of labels behind it."""
-        return [mark[1] + labels for labels in self.row(self.passing_places[mark])[2]]
+        """The stops of a mark, ascending: the path, and each of its row's tuples of labels behind it. Callers do not
+        change the list."""
+        if mark not in self._stops:
+            self._stops[mark] = [mark[1] + labels for labels in self.row(self.passing_places[mark])[2]]
+        return self._stops[mark]
 
     def holders_along(self, path):
         """The ascending list of the holders that live by a path."""
@@ -112,6 +119,9 @@ class RowFlow:
         path, unit, at = place
         row = self.row(place)
         word, behind = row[0], (path, unit, at + 1)
+        if word in CHANGING:
+            holder, wanted = change_of(self.modulus, row, len(path))
+            return ("set", holder, wanted, behind)
         if word == "mark":
             return ("pass", (row[1], path), behind)
         if word == "print":
@@ -127,7 +137,4 @@ class RowFlow:
             return ("live", self._frame(inner), (inner, row[1], 0))
         if word == "back":
             return ("gone", self._frame(path), self._returns[path])
-        if word == "end":
-            return ("end",)
-        holder, wanted = change_of(self.modulus, row, len(path))
-        return ("set", holder, wanted, behind)
+        return ("end",)

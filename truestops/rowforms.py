@@ -1,6 +1,6 @@
 """The forms of rows and units, and copies of them."""
 
-from truestops.forms import is_count, is_name, is_number
+from truestops.forms import is_count, is_name
 
 MOST_CELLS = 8
 MOST_BOXES = 4
@@ -54,24 +54,30 @@ class Sizes:
     def __init__(self, prime, boxes, cells, main_cells):
         self.limits = {"number": prime, "box": boxes, "cell": cells, "global": main_cells}
 
-    def is_part(self, kind, value):
-        if kind in self.limits:
-            return is_number(self.limits[kind], value)
-        if kind == "at":
-            return is_count(value)
-        if kind == "ats":
-            return are_ats(value)
-        if kind == "stops":
-            return are_stops(value)
-        return is_name(value)
-
     def is_row(self, value):
         if type(value) is not tuple or not value or type(value[0]) is not str or value[0] not in PARTS_OF_ROWS:
             return False
         kinds = PARTS_OF_ROWS[value[0]]
         if len(value) != 1 + len(kinds):
             return False
-        return all([self.is_part(kind, part) for kind, part in zip(kinds, value[1:])])
+        for kind, part in zip(kinds, value[1:]):
+            if kind in self.limits:
+                if type(part) is not int or not 0 <= part < self.limits[kind]:
+                    return False
+            elif not is_other_part(kind, part):
+                return False
+        return True
+
+
+def is_other_part(kind, value):
+    """Whether a value is a part of a row that no size bounds."""
+    if kind == "at":
+        return is_count(value)
+    if kind == "ats":
+        return are_ats(value)
+    if kind == "stops":
+        return are_stops(value)
+    return is_name(value)
 
 
 def is_shell(value):
@@ -96,7 +102,10 @@ def are_units(prime, boxes, value):
 
 
 def copy_row(row):
-    return tuple([list(part) if type(part) is list else part for part in row])
+    """A copy of a row; those that hold no list never change, so they are their own copies."""
+    if row[0] == "pick":
+        return ("pick", list(row[1]))
+    return ("mark", row[1], list(row[2])) if row[0] == "mark" else row
 
 
 def copy_units(units):

@@ -6,7 +6,7 @@ from truestops.forms import require_prime
 from truestops.rowflows import RowFlow
 from truestops.rowforms import are_units, copy_units, is_count_of_boxes, units_called
 from truestops.soundness import first_unsound
-from truestops.walks import walked_on
+from truestops.walks import Walk
 
 
 def require_boxes(boxes):
@@ -53,14 +53,14 @@ def require_rows(rows):
 
 def run_rows(rows, inputs):
     require_rows(rows)
-    walk, beats = walked_on(rows.flow, inputs)
-    return (beats, walk.asking())
+    walk = Walk(rows.flow, inputs)
+    return (walk.beats, walk.stretch.asked)
 
 
 def stands(rows, inputs):
     require_rows(rows)
-    walk, _ = walked_on(rows.flow, inputs)
-    return (walk.place, walk.state())
+    walk = Walk(rows.flow, inputs)
+    return (walk.stretch.place, walk.state())
 
 
 def paths_of(rows):
@@ -70,13 +70,12 @@ def paths_of(rows):
 
 def marks_of(rows):
     require_rows(rows)
-    return [(mark, rows.flow.stops_of(mark)) for mark in sorted(rows.flow.passing_places)]
+    return [(mark, list(rows.flow.stops_of(mark))) for mark in sorted(rows.flow.passing_places)]
 
 
 def passed_marks(rows, inputs):
     require_rows(rows)
-    walk, _ = walked_on(rows.flow, inputs)
-    return walk.passed
+    return Walk(rows.flow, inputs).passed()
 
 
 def united(parts):

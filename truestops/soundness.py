@@ -3,26 +3,45 @@
 from truestops.leading import led_to
 from truestops.rowforms import each_row, leads_to, units_called
 
+# The words of rows that do not lead on to the next row alone, and of those that bear a label or a name.
+LEADING_OTHERWISE = ("go", "pick", "back", "end")
+NOTED = ("call", "mark")
 
-def first_bent_row(units):
-    """The first row that leads nowhere, stands in a wrong unit, or bears a label or a name a second time."""
-    labels = {}
-    names = {}
-    for unit, at, row in each_row(units):
-        word = row[0]
-        if not all([ahead < len(units[unit][1]) for ahead in leads_to(at, row)]):
-            return (unit, at)
-        if word == "back" and unit == "main" or word == "end" and unit != "main":
-            return (unit, at)
-        if word == "call" and (row[1] not in units or (unit, row[2]) in labels):
-            return (unit, at)
-        if word == "mark" and row[1] in names:
-            return (unit, at)
-        if word == "call":
-            labels[(unit, row[2])] = True
-        elif word == "mark":
-            names[row[1]] = True
-    return None
+
+class RowSearch:
+    """Looks for a row that leads nowhere, stands in a wrong unit, or bears a label or a name a second time."""
+
+    def __init__(self, units):
+        self.units = units
+        self._labels = {}
+        self._names = {}
+
+    def first_bent_row(self):
+        for unit in sorted(self.units):
+            rows = self.units[unit][1]
+            many = len(rows)
+            for at, row in enumerate(rows):
+                if row[0] in LEADING_OTHERWISE:
+                    if not all([ahead < many for ahead in leads_to(at, row)]) or self._is_out_of_place(unit, row):
+                        return (unit, at)
+                elif at + 1 == many or row[0] in NOTED and self._is_noted(unit, row):
+                    return (unit, at)
+        return None
+
+    def _is_out_of_place(self, unit, row):
+        return row[0] == "back" and unit == "main" or row[0] == "end" and unit != "main"
+
+    def _is_noted(self, unit, row):
+        """Notes a label or a name, and returns whether it was noted already, or is of a call to nowhere."""
+        if row[0] == "mark":
+            if row[1] in self._names:
+                return True
+            self._names[row[1]] = True
+            return False
+        if row[1] not in self.units or (unit, row[2]) in self._labels:
+            return True
+        self._labels[(unit, row[2])] = True
+        return False
 
 
 def first_call_on_ring(units):
@@ -51,16 +70,22 @@ def leads_back(rows, start):
     return False
 
 
+def has_ring(rows):
+    """Whether some rows of a unit lead back to themselves without asking. On each ring one of them goes back."""
+    return any([row[0] == "go" and row[1] <= at and leads_back(rows, at) for at, row in enumerate(rows)])
+
+
 def first_row_on_ring(units):
-    for unit, at, _ in each_row(units):
-        if leads_back(units[unit][1], at):
-            return (unit, at)
+    for unit in sorted(units):
+        rows = units[unit][1]
+        if has_ring(rows):
+            return (unit, [at for at in range(len(rows)) if leads_back(rows, at)][0])
     return None
 
 
 def first_unsound(units):
     """The first unsound row of units as (unit, at), or None."""
-    found = first_bent_row(units)
+    found = RowSearch(units).first_bent_row()
     if found is None:
         found = first_call_on_ring(units)
     if found is None:

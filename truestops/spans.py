@@ -14,7 +14,7 @@ from truestops.forms import is_state
 from truestops.hulls import Hull
 from truestops.tours import lone_tour
 from truestops.vectors import crossing, product_of
-from truestops.walks import walked_on
+from truestops.walks import Walk
 
 
 def require_place(engine, where):
@@ -41,11 +41,7 @@ def kept_numbers(engine, where):
 def state_at(engine, where, inputs):
     require_place(engine, where)
     require_list(inputs)
-    walk, _ = walked_on(engine.flow, inputs)
-    for passed, state, _ in walk.passed:
-        if passed == where:
-            return state
-    return None
+    return Walk(engine.flow, inputs).state_passed(where)
 
 
 def kept_at(engine, where):

@@ -6,7 +6,6 @@ comes is the same mixture of what came behind the earlier ones. So only runs in 
 
 from truestops.beats import letters_to_try, number_of
 from truestops.hulls import Hull
-from truestops.vectors import product_of
 
 
 class Turn:
@@ -15,16 +14,22 @@ class Turn:
     def __init__(self, modulus, beat, inlet):
         self.modulus = modulus
         self.beat = beat
-        self.inlet = inlet
+        # Most numbers are 0; only the others count.
+        self._counting = [(at, number) for at, number in enumerate(inlet) if number]
+        self._after = None
 
     def reckoned(self, vectors):
-        return [product_of(self.modulus, vector, self.inlet) for vector in vectors]
+        counting = self._counting
+        return [sum([vector[at] * number for at, number in counting]) % self.modulus for vector in vectors]
 
     def numbers_printed(self):
         return self.reckoned(self.beat.prints)
 
     def numbers_after(self):
-        return self.reckoned(self.beat.after)
+        """The numbers of all that lives where the beat ends. Callers do not change the list."""
+        if self._after is None:
+            self._after = self.reckoned(self.beat.after)
+        return self._after
 
     def comes_by(self, where):
         return any([passed == where for passed, _, _ in self.beat.passes])
@@ -46,10 +51,19 @@ def next_turn(beats, place, numbers, letter):
     return Turn(beats.modulus, beats.behind(place, letter), numbers + [number_of(letter), 1])
 
 
+def turn_behind(beats, turn, letter):
+    """The turn behind a letter that is given behind one."""
+    return Turn(beats.modulus, beats.next_beat(turn.beat, letter), turn.numbers_after() + [number_of(letter), 1])
+
+
 def print_alike(turns):
     """Whether engines print the same numbers in their turns and ask the same behind them, or end."""
-    told = [(turn.numbers_printed(), turn.beat.asked) for turn in turns]
-    return all([one == told[0] for one in told])
+    first = turns[0]
+    printed = first.numbers_printed()
+    for turn in turns[1:]:
+        if turn.beat.asked != first.beat.asked or turn.numbers_printed() != printed:
+            return False
+    return True
 
 
 class Going:
@@ -78,10 +92,7 @@ def first_going(all_beats):
 
 def going_behind(all_beats, going, letter):
     """The going behind one that asks, with a letter more that fits."""
-    turns = [
-        next_turn(beats, turn.beat.place, turn.numbers_after(), letter)
-        for beats, turn in zip(all_beats, going.turns)
-    ]
+    turns = [turn_behind(beats, turn, letter) for beats, turn in zip(all_beats, going.turns)]
     return Going(going.inputs + [letter], turns)
 
 
@@ -102,7 +113,8 @@ class Tour:
         self.kept = []
         self.parting = None
         self._hulls = {}
-        self._made = {}
+        # The positions of the goings, by the numbers of the beats that they make.
+        self.by_beats = {}
         self._go_through(first_going(all_beats))
         at = 0
         while at < len(self.kept):
@@ -113,15 +125,19 @@ class Tour:
 
     def _go_through(self, going):
         self.goings.append(going)
-        made = tuple([turn.beat.key for turn in going.turns])
-        going.fresh = made not in self._made
-        self._made[made] = True
+        made = tuple([turn.beat.number for turn in going.turns])
+        going.fresh = made not in self.by_beats
+        if going.fresh:
+            self.by_beats[made] = []
+        self.by_beats[made].append(len(self.goings) - 1)
         if not going.alike:
             if self.parting is None:
                 self.parting = going
         elif going.asks():
-            hull = self._hulls.setdefault(going.places(), Hull(self.modulus))
-            if hull.take_in(going.joint_after() + [1]):
+            spots = tuple([turn.beat.spot for turn in going.turns])
+            if spots not in self._hulls:
+                self._hulls[spots] = Hull(self.modulus)
+            if self._hulls[spots].take_in(going.joint_after() + [1]):
                 self.kept.append(going)
 
 

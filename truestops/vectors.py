@@ -2,16 +2,14 @@
 
 
 def inverse_of(prime, number):
-    """The number that times this one is 1: its power by the prime less 2, by squaring."""
-    result = 1
-    square = number
-    exponent = prime - 2
-    while exponent > 0:
-        if exponent & 1:
-            result = result * square % prime
-        square = square * square % prime
-        exponent = exponent >> 1
-    return result
+    """The number that times this one is 1: what is left of the prime and it is taken off each other down to 1."""
+    greater, less = prime, number
+    known, found = 0, 1
+    while less > 1:
+        times = greater // less
+        greater, less = less, greater - times * less
+        known, found = found, known - times * found
+    return found % prime
 
 
 def product_of(prime, one, other):
@@ -20,12 +18,18 @@ def product_of(prime, one, other):
 
 def columns_of(vectors, length):
     """The numbers of vectors of one length, place by place."""
-    return [[vector[place] for vector in vectors] for place in range(length)]
+    if not vectors:
+        return [[] for _ in range(length)]
+    return [list(column) for column in zip(*vectors)][:length]
 
 
 def added_up(prime, vectors, factors, length):
     """What vectors of this length, perhaps none, add up to by factors."""
-    return [product_of(prime, factors, column) for column in columns_of(vectors, length)]
+    total = [0] * length
+    for factor, vector in zip(factors, vectors):
+        if factor:
+            total = [a + factor * b for a, b in zip(total, vector)]
+    return [number % prime for number in total]
 
 
 def pivot_row(table, start, place):
@@ -37,9 +41,11 @@ def pivot_row(table, start, place):
 
 def clear_column(prime, table, at, place):
     """Makes the number of one row at this place 1, and that of all other rows 0."""
-    scale = inverse_of(prime, table[at][place])
-    lead = [number * scale % prime for number in table[at]]
-    table[at] = lead
+    lead = table[at]
+    if lead[place] != 1:
+        scale = inverse_of(prime, lead[place])
+        lead = [number * scale % prime for number in lead]
+        table[at] = lead
     for row in range(len(table)):
         factor = table[row][place]
         if row != at and factor:

@@ -1,7 +1,15 @@
-"""Runs of a flow: from place to place, by the points alone."""
+"""Runs of a flow: from place to place, by the points alone.
+
+What happens from a place on until something is asked is the same each time, but for the numbers: so it is looked up
+once, as a stretch of deeds, and runs go from stretch to stretch.
+"""
 
 from truestops.errors import InvalidInputs
-from truestops.forms import letter_fits
+
+SETS = 0
+PRINTS = 1
+BEGINS = 2
+PASSES = 3
 
 
 def reckoned(modulus, wanted, numbers):
@@ -9,76 +17,136 @@ def reckoned(modulus, wanted, numbers):
     return sum([factor * (numbers[name] if name else 1) for name, factor in wanted.items()]) % modulus
 
 
-class Walk:
-    """One run: where it stands, what its holders hold, and what its last beat passed and printed."""
+def holders_with_factors(wanted):
+    if "" in wanted:
+        return [item for item in wanted.items() if item[0]]
+    return list(wanted.items())
 
-    def __init__(self, flow):
-        self.flow = flow
-        self.place = flow.start
-        self.numbers = {}
-        self.way = []
-        self.passed = []
-        self.printed = []
 
-    def asking(self):
-        """What is asked for, or the end, where the run stands behind a beat."""
-        point = self.flow.point(self.place)
-        if point[0] == "read":
-            return ("number",)
-        if point[0] == "pick":
-            return ("choice", len(point[1]))
-        return ("end",)
+def deed_of(flow, place, point):
+    """What a point does, with what that takes; None for one that does nothing to the numbers of what lives on."""
+    word = point[0]
+    if word == "set":
+        return (SETS, point[1], point[2].get("", 0), holders_with_factors(point[2]))
+    if word == "print":
+        return (PRINTS, None, point[1].get("", 0), holders_with_factors(point[1]))
+    if word == "pass":
+        return (PASSES, point[1], None, flow.living(place))
+    if word == "live" and point[1]:
+        return (BEGINS, None, None, point[1])
+    return None
 
-    def give(self, letter):
-        """Takes a letter that fits. The beat behind it begins with the place to which it leads."""
-        point = self.flow.point(self.place)
-        if point[0] == "read":
-            self.numbers[point[1]] = letter[1]
-            self.place = point[2]
-        else:
-            self.place = point[1][letter[1]]
 
-    def go_on(self):
-        """Makes a beat: all until something is asked for, or the end."""
-        self.way = [self.place]
-        self.passed = []
-        self.printed = []
-        point = self.flow.point(self.place)
+class Stretch:
+    """What happens from a place on until something is asked, or the end: `place`, its `point`, and what is asked.
+
+    `deeds` are what changes numbers or prints, `steps` these and what is passed. A letter that answers has the word,
+    and a count below the limit.
+    """
+
+    def __init__(self, flow, place):
+        self.way = [place]
+        self.steps = []
+        point = flow.point(place)
         while point[0] not in ("read", "pick", "end"):
-            self._carry_out(point)
-            self.place = point[-1]
-            self.way.append(self.place)
-            point = self.flow.point(self.place)
+            deed = deed_of(flow, place, point)
+            if deed is not None:
+                self.steps.append(deed)
+            place = point[-1]
+            self.way.append(place)
+            point = flow.point(place)
+        self.deeds = [deed for deed in self.steps if deed[0] != PASSES]
+        self.place = place
+        self.point = point
+        self.asked = asked_by(point)
+        self.word = self.asked[0]
+        self.limit = flow.modulus if point[0] == "read" else len(point[1]) if point[0] == "pick" else 0
+
+
+def asked_by(point):
+    """What a point asks for, as runs tell it, or that it is the end."""
+    if point[0] == "read":
+        return ("number",)
+    if point[0] == "pick":
+        return ("choice", len(point[1]))
+    return ("end",)
+
+
+def stretch_from(flow, place):
+    if place not in flow.stretches:
+        flow.stretches[place] = Stretch(flow, place)
+    return flow.stretches[place]
+
+
+def do(modulus, deeds, numbers):
+    """Makes deeds, none of which passes anything, and returns what they print."""
+    printed = []
+    for kind, holder, total, more in deeds:
+        if kind == BEGINS:
+            for name in more:
+                numbers[name] = 0
+        else:
+            for name, factor in more:
+                total = total + factor * numbers[name]
+            if kind == SETS:
+                numbers[holder] = total % modulus
+            else:
+                printed.append(total % modulus)
+    return printed
+
+
+class Walk:
+    """One run: what its beats printed, where it stands, what its holders hold."""
+
+    def __init__(self, flow, inputs):
+        if type(inputs) is not list:
+            raise InvalidInputs(inputs)
+        self.flow = flow
+        self.stretch = stretch_from(flow, flow.start)
+        self.numbers = {}
+        # What the holders hold where the last beat begins.
+        self.begin = {}
+        self.beats = [do(flow.modulus, self.stretch.deeds, self.numbers)]
+        for position, letter in enumerate(inputs):
+            self._give(position, letter)
+            if position == len(inputs) - 1:
+                self.begin = dict(self.numbers)
+            self.beats.append(do(flow.modulus, self.stretch.deeds, self.numbers))
+
+    def _give(self, position, letter):
+        stretch = self.stretch
+        if type(letter) is not tuple or len(letter) != 2 or letter[0] != stretch.word:
+            raise InvalidInputs(position)
+        count = letter[1]
+        if type(count) is not int or not 0 <= count < stretch.limit:
+            raise InvalidInputs(position)
+        if stretch.word == "number":
+            self.numbers[stretch.point[1]] = count
+            self.stretch = stretch_from(self.flow, stretch.point[2])
+        else:
+            self.stretch = stretch_from(self.flow, stretch.point[1][count])
 
     def state(self):
-        return {holder: self.numbers[holder] for holder in self.flow.living(self.place)}
+        return {holder: self.numbers[holder] for holder in self.flow.living(self.stretch.place)}
 
-    def _carry_out(self, point):
-        if point[0] == "live":
-            for holder in point[1]:
-                self.numbers[holder] = 0
-        elif point[0] == "gone":
-            for holder in point[1]:
-                del self.numbers[holder]
-        elif point[0] == "set":
-            self.numbers[point[1]] = reckoned(self.flow.modulus, point[2], self.numbers)
-        elif point[0] == "print":
-            self.printed.append(reckoned(self.flow.modulus, point[1], self.numbers))
-        else:
-            self.passed.append((point[1], self.state(), len(self.printed)))
+    def passed(self):
+        """The tuples (where, state, how many numbers are printed by then) of all that its last beat passes."""
+        return self._passes(None)
 
+    def state_passed(self, where):
+        """The state in which its last beat passes this, or None."""
+        for _, state, _ in self._passes(where):
+            return state
+        return None
 
-def walked_on(flow, inputs):
-    """The walk at the end of its last beat, and what all beats printed."""
-    if type(inputs) is not list:
-        raise InvalidInputs(inputs)
-    walk = Walk(flow)
-    walk.go_on()
-    beats = [walk.printed]
-    for position, letter in enumerate(inputs):
-        if not letter_fits(flow.modulus, walk.asking(), letter):
-            raise InvalidInputs(position)
-        walk.give(letter)
-        walk.go_on()
-        beats.append(walk.printed)
-    return walk, beats
+    def _passes(self, where):
+        """What the last beat passes, made once more; all of it, or just what is told."""
+        numbers = dict(self.begin)
+        found = []
+        many = 0
+        for step in self.stretch.steps:
+            if step[0] != PASSES:
+                many += len(do(self.flow.modulus, [step], numbers))
+            elif where is None or step[1] == where:
+                found.append((step[1], {holder: numbers[holder] for holder in step[3]}, many))
+        return found
