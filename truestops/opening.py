@@ -1,6 +1,7 @@
 """The flow of a program: its text with all calls opened, as points at places."""
 
 from truestops.statements import ascending, blocks_of
+from truestops.walks import steps_by_points
 
 
 def table_of(procedures):
@@ -107,6 +108,9 @@ class Flow:
     def living(self, place):
         """The ascending list of the holders that live ahead of the point at a place."""
         return self.alive[place]
+
+    def steps_from(self, place):
+        return steps_by_points(self, place)
 
     def name_of(self, place):
         """What an asking place is told as: its stop. Each point that asks stands right behind that of its stop."""

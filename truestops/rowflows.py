@@ -3,11 +3,11 @@
 Points are those of a program's flow, so that the same walks and beats go by both.
 """
 
-from truestops.rowforms import CHANGING, each_row
+from truestops.rowforms import CHANGING, LEADING_ON, each_row
+from truestops.walks import BEGINS, PASSES, PRINTS, SETS, holders_with_factors
 
 
 BOXES = ("#0", "#1", "#2", "#3")
-
 
 def name_of_box(box):
     return BOXES[box]
@@ -59,6 +59,8 @@ class RowFlow:
         self._returns = {}
         self._stops = {}
         self._points = {}
+        # What rows do in a frame at a depth: equal rows do the same.
+        self._deeds = {}
         self._open((), "main", self._boxes)
 
     def _open(self, path, name, outer):
@@ -109,6 +111,44 @@ class RowFlow:
         if place not in self._points:
             self._points[place] = self._point_of(place)
         return self._points[place]
+
+    def steps_from(self, place):
+        """As by the points, which need not be made for this."""
+        if place == self.start:
+            way, steps = self.steps_from(((), "main", 0))
+            return [place] + way, [(BEGINS, None, None, self._living[()])] + steps
+        way = [place]
+        steps = []
+        row = self.row(place)
+        while row[0] not in ("read", "pick", "end"):
+            path, unit, at = place
+            if row[0] in LEADING_ON:
+                steps.append(self._deed_of(path, row))
+                place = (path, unit, at + 1)
+            elif row[0] == "go":
+                place = (path, unit, row[1])
+            elif row[0] == "call":
+                path = path + (row[2],)
+                steps.append((BEGINS, None, None, self._frame(path)))
+                place = (path, row[1], 0)
+            else:
+                place = self._returns[path]
+            way.append(place)
+            row = self.row(place)
+        return way, steps
+
+    def _deed_of(self, path, row):
+        """What a row that leads on to the next one does."""
+        if row[0] == "mark":
+            return (PASSES, (row[1], path), None, self._living[path])
+        key = (len(path), row)
+        if key not in self._deeds:
+            if row[0] == "print":
+                self._deeds[key] = (PRINTS, None, 0, [(name_of_box(row[1]), 1)])
+            else:
+                holder, wanted = change_of(self.modulus, row, len(path))
+                self._deeds[key] = (SETS, holder, wanted.get("", 0), holders_with_factors(wanted))
+        return self._deeds[key]
 
     def _frame(self, path):
         return [name_of_cell(len(path), cell) for cell in range(self._units[self.paths[path]][0])]

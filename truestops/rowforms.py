@@ -29,6 +29,9 @@ PARTS_OF_ROWS = {
 # The words of rows that do nothing but change one holder.
 CHANGING = ("set", "copy", "times", "more", "add", "take", "keep", "fetch", "store")
 
+# The words of all rows that do something and then lead on to the next one.
+LEADING_ON = ("set", "copy", "times", "more", "add", "take", "keep", "fetch", "store", "print", "mark")
+
 
 def is_count_of_boxes(value):
     return is_count(value) and 1 <= value <= MOST_BOXES

@@ -25,11 +25,13 @@ def columns_of(vectors, length):
 
 def added_up(prime, vectors, factors, length):
     """What vectors of this length, perhaps none, add up to by factors."""
-    total = [0] * length
+    total = None
     for factor, vector in zip(factors, vectors):
-        if factor:
+        if factor and total is None:
+            total = [factor * number for number in vector[:length]]
+        elif factor:
             total = [a + factor * b for a, b in zip(total, vector)]
-    return [number % prime for number in total]
+    return [0] * length if total is None else [number % prime for number in total]
 
 
 def pivot_row(table, start, place):

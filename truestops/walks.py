@@ -37,30 +37,51 @@ def deed_of(flow, place, point):
     return None
 
 
+def steps_by_points(flow, place):
+    """The places from one on up to the next asking, or the end, and what is done at them."""
+    way = [place]
+    steps = []
+    point = flow.point(place)
+    while point[0] not in ("read", "pick", "end"):
+        deed = deed_of(flow, place, point)
+        if deed is not None:
+            steps.append(deed)
+        place = point[-1]
+        way.append(place)
+        point = flow.point(place)
+    return way, steps
+
+
 class Stretch:
     """What happens from a place on until something is asked, or the end: `place`, its `point`, and what is asked.
 
-    `deeds` are what changes numbers or prints, `steps` these and what is passed. A letter that answers has the word,
-    and a count below the limit.
+    `deeds` are what changes numbers or prints, `steps` these and what is passed, and `passings` tuples of the deeds
+    ahead of each passing, behind the one ahead of it, and of what is passed and lives there. A letter that answers has
+    the word, and a count below the limit.
     """
 
     def __init__(self, flow, place):
-        self.way = [place]
-        self.steps = []
-        point = flow.point(place)
-        while point[0] not in ("read", "pick", "end"):
-            deed = deed_of(flow, place, point)
-            if deed is not None:
-                self.steps.append(deed)
-            place = point[-1]
-            self.way.append(place)
-            point = flow.point(place)
+        self.way, self.steps = flow.steps_from(place)
         self.deeds = [deed for deed in self.steps if deed[0] != PASSES]
-        self.place = place
-        self.point = point
+        self.passings = passings_of(self.steps)
+        self.place = self.way[-1]
+        self.point = flow.point(self.place)
+        point = self.point
         self.asked = asked_by(point)
         self.word = self.asked[0]
         self.limit = flow.modulus if point[0] == "read" else len(point[1]) if point[0] == "pick" else 0
+
+
+def passings_of(steps):
+    found = []
+    deeds = []
+    for step in steps:
+        if step[0] == PASSES:
+            found.append((deeds, step[1], step[3]))
+            deeds = []
+        else:
+            deeds.append(step)
+    return found
 
 
 def asked_by(point):
@@ -131,22 +152,20 @@ class Walk:
 
     def passed(self):
         """The tuples (where, state, how many numbers are printed by then) of all that its last beat passes."""
-        return self._passes(None)
-
-    def state_passed(self, where):
-        """The state in which its last beat passes this, or None."""
-        for _, state, _ in self._passes(where):
-            return state
-        return None
-
-    def _passes(self, where):
-        """What the last beat passes, made once more; all of it, or just what is told."""
         numbers = dict(self.begin)
         found = []
         many = 0
-        for step in self.stretch.steps:
-            if step[0] != PASSES:
-                many += len(do(self.flow.modulus, [step], numbers))
-            elif where is None or step[1] == where:
-                found.append((step[1], {holder: numbers[holder] for holder in step[3]}, many))
+        for deeds, told, living in self.stretch.passings:
+            many += len(do(self.flow.modulus, deeds, numbers))
+            found.append((told, {holder: numbers[holder] for holder in living}, many))
         return found
+
+    def state_passed(self, where):
+        """The state in which its last beat passes this, or None."""
+        # The last beat is made once more, as far as that.
+        numbers = dict(self.begin)
+        for deeds, told, living in self.stretch.passings:
+            do(self.flow.modulus, deeds, numbers)
+            if told == where:
+                return {holder: numbers[holder] for holder in living}
+        return None
