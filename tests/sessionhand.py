@@ -2,7 +2,9 @@
 
 from truestops.benches import stops_of
 from truestops.exchange import exchange_rule, sure_rule
+from truestops.fitting import fitting_at
 from truestops.moving import change_for
+from truestops.numbers import nothings
 from truestops.putting import counted_sums
 from truestops.reading import read_rule, readable
 
@@ -104,11 +106,19 @@ class Hand:
         """Readings of all that can be read at any mark."""
         found = []
         for mark, stop in self.stock.bench.passings.true_seats():
-            for wanted in readable(self.stock.bench, mark, stop) + [{name: 1} for name in sorted(self.stock.bench.joints.variables(stop))]:
-                rule = self.rule(wanted, mark, stop)
-                if rule is not None:
-                    found.append(("read", mark, stop, wanted, rule))
+            for wanted in self.sums_at(mark, stop):
+                found.append(("read", mark, stop, wanted, self.rule(wanted, mark, stop)))
         return found
+
+    def sums_at(self, mark, stop):
+        """A basis of all sums that can be read at a mark."""
+        if not self.exchanged:
+            return readable(self.stock.bench, mark, stop)
+        variables = self.stock.bench.joints.variables(stop)
+        runs = fitting_at(self.stock.bench, mark, stop).base_runs()
+        columns = [list(column) for column in zip(*[run.variables + run.holders + [1] for run in runs])]
+        told = [zero[:len(variables)] for zero in nothings(self.stock.prime, columns)]
+        return [{name: n for name, n in zip(variables, vector) if n} for vector in told if any(vector)]
 
     def put(self, wishes):
         numbers = self.numbers()

@@ -74,6 +74,7 @@ def some_stirs(chance, prime, names, many):
 
 def stock_of_all_kinds(seeds, prime):
     yield from woven_stock(range(seeds), prime, 2, 2)
+    yield from woven_stock(range(seeds // 2), prime, 3, 2, 0.6, True)
     yield from chance_stock(range(seeds), prime, 3, 1)
     yield from joined_stock(range(seeds // 3), prime) if prime < 10 else []
 
@@ -277,7 +278,9 @@ class Point67(Checks):
         self.assertTrue(is_why_no_common(bench, M, stirs, bar))
         self.assertIsNone(why_no_common(bench, M, {p: {"x": 1}}))
         self.assertIsNone(common_change(bench, M, {p: {"x": 1}, r: {}}))
-        for bent in bent_ones(bar) + odd_objects() + [[], None]:
+        # One tuple may be told in parts only by other going-on: never one place twice, nor any of another stop.
+        twice = [(p, [], 0, 2), (p, [], 0, 2), (r, [], 0, 1)]
+        for bent in bent_ones(bar) + odd_objects() + [[], None, twice, bar + [(("e",), [], 0, 1)], bar + [(p, [], 0, 1)]]:
             if bent != bar[::-1]:
                 self.assertFalse(is_why_no_common(bench, M, stirs, bent), bent)
         for value in odd_objects() + [{"#0": 1}, {"#0": 2}, {"x": 1}]:

@@ -387,6 +387,18 @@ class Point78(Checks):
         self.assertFalse(is_piece_ladder(whole, M, ("s",), {"u": 1, "v": 1}, [(M, ("s",), {"u": 1, "v": 4}, parts)]))
         self.assertIsNone(piece_ladder(marked, M, ("s",), {"u": 1}))
 
+    def test_prints_on_both_sides_of_an_asking(self):
+        steps = [("read", "r", "u"), ("set", "w", "v", {"u": 1}), ("print", "s", {"u": 1}), ("print", "x", {}), ("read", "q", "z"), ("print", "t", {"v": 1})]
+        rows = [("read", 0), ("mark", "m", [("s",)]), ("print", 0), ("set", 1, 0), ("print", 1), ("read", 1), ("print", 0), ("end",)]
+        bench = bench_of(5, ["u", "v", "z"], steps, 2, rows)
+        args = (bench, M, ("s",), {"u": 1})
+        step = (M, ("s",), {"u": 1, "v": 4}, [("print", [], 0, 1), ("print", [("number", 3)], 2, 4)])
+        self.assertTrue(is_piece_ladder(*args, [step]))
+        self.assertFalse(is_piece_ladder(*args, [step[:3] + ([("print", [], 0, 1), ("print", [("number", 3)], 1, 4)],)]))
+        told = piece_ladder(*args)
+        self.assertTrue(is_piece_ladder(*args, told))
+        self.assertEqual(sorted(part[1:3] for part in told[-1][3]), [([], 0), ([("number", 0)], 2)])
+
     def test_ladders_may_be_changed(self):
         self.unhurt(piece_ladder, self.round_bench(), M, ("a",), {"u": 1})
         self.assertTrue(is_piece_ladder(self.round_bench(), M, ("a",), {"u": 1}, piece_ladder(self.round_bench(), M, ("a",), {"u": 1})))

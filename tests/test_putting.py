@@ -71,7 +71,7 @@ def holds_in_runs(beside, names, rule, numbers, most, many=None):
 
 class Point80(Checks):
     def test_rules_against_runs(self):
-        told = {True: 0, False: 0}
+        told = {None: 0, "move": 0, "read": 0}
         for prime in [2, 3, 5, 65537]:
             chance = random.Random(prime)
             for stock in orderly(stock_of_all_kinds(40, prime)):
@@ -82,7 +82,7 @@ class Point80(Checks):
                         args = (stock.bench, readings, beside.mark, beside.stop, names)
                         rule, paper = put_rule(*args), why_unput(*args)
                         self.assertEqual(rule is None, paper is not None)
-                        told[rule is None] += 1
+                        told[None if paper is None else paper[0]] += 1
                         self.is_as_the_point_says(args, rule)
                         if rule is not None:
                             self.assertTrue(is_put_rule(*args, rule))
@@ -91,7 +91,7 @@ class Point80(Checks):
                         else:
                             self.assertTrue(is_why_unput(*args, paper))
                             self.paper_holds(beside, args, paper)
-        self.assertGreater(min(told.values()), 100)
+        self.assertGreater(min(told.values()), 20)
 
     def is_as_the_point_says(self, args, rule):
         """There is one exactly if each variable has an honest change, and each counted sum can be read."""
@@ -254,6 +254,7 @@ class Point82(Checks):
         self.unhurt(why_unput, both, [], M, s, ["x"])
         self.unhurt(why_unput, bench, [], M, C, ["x"])
         self.assertIsNone(why_unput(bench, [], M, C, ["x", "y"]))
+        self.assertEqual(why_unput(bench, [], M, C, ["x"])[:3], ("read", [], 0))
 
     def test_readings_count(self):
         readings = [("read", M, C, {"x": 1, "y": 1}, {"#0": 1})]

@@ -150,6 +150,16 @@ class Point60And61(Against):
         for bad in [[([ONE, ("number", 4)], 1)], [([ONE, ("number", 4)], 1), ([("number", 2), ("number", 3)], 1)], [([ONE, ONE], 1), ([NOUGHT, ONE], 4)]]:
             self.assertIs(are_read_runs(desk, LATE, ("c",), {"x": 1}, bad), False)
 
+    def test_runs_to_the_mark_at_another_stop(self):
+        arms = [([], [("pass", "p")]), ([], [("set", "q", "x", {}), ("pass", "r")])]
+        program = Program(5, ["x"], [], ([], [("read", "a", "x"), ("pick", "k", arms), ("print", "e", {})]))
+        rows = [("read", 0), ("set", 0, 0), ("pick", [3, 3]), ("mark", "m", [("p",), ("r",)]), ("print", 0), ("end",)]
+        bench, mark = Bench(program, Rows(5, 1, {"main": (0, rows)})), ("m", ())
+        paper = [([("number", 1), ("choice", 0)], 1), ([("number", 0), ("choice", 0)], 4)]
+        self.assertIs(are_read_runs(bench, mark, ("p",), {"x": 1}, paper), True)
+        self.assertIs(are_read_runs(bench, mark, ("r",), {"x": 1}, paper), False)
+        self.assertIs(are_read_runs(bench, mark, ("p",), {"x": 1}, [paper[0], ([("number", 0), ("choice", 1)], 4)]), False)
+
     def test_at_most_two_more_than_holders(self):
         desk = tale()
         # Two boxes: four runs may stand in a paper, five may not, though they add up as well.

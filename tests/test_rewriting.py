@@ -400,6 +400,19 @@ class Point53(Against):
         rows = main_of(("call", "one", "c"), ("set", 0, 0), ("print", 0), END, cells=1, **unit)
         self.assertEqual(idle_rows(rows), [("one", 0), ("one", 1), ("one", 2)])
 
+    def test_frames_begin_with_nothing_in_their_cells(self):
+        # What the one call keeps is not what the other one takes.
+        units = {"one": (1, [("keep", 0, 0), ("back",)]), "two": (1, [("take", 1, 0), ("add", 0, 1), ("back",)])}
+        rows = main_of(("read", 0), ("call", "one", "c"), ("call", "two", "d"), ("print", 0), END, **units)
+        self.assertEqual(idle_rows(rows), [("one", 0)])
+
+    def test_what_is_taken_off_again(self):
+        # Box 1 is added once, and four times more: of five nothing is left.
+        turned = main_of(("read", 1), ("more", 1, 1), ("add", 0, 1), ("times", 1, 4), ("add", 0, 1), ("print", 0), END)
+        self.assertEqual((turned.prime(), idle_rows(turned)), (5, [("main", 1)]))
+        kept = main_of(("read", 1), ("more", 1, 1), ("add", 0, 1), ("times", 1, 3), ("add", 0, 1), ("print", 0), END)
+        self.assertEqual(idle_rows(kept), [])
+
     def test_a_holder_that_is_asked_for_later(self):
         rows = [("read", 0), ("keep", 0, 0), ("set", 0, 0), ("pick", [4, 6]), ("take", 0, 0), ("print", 0), ("pick", [4, 7]), END]
         self.assertEqual(idle_rows(main_of(*rows, cells=1)), [("main", 2)])

@@ -91,7 +91,8 @@ class Trial:
         self.case.assertEqual(len(self.session.log()), len(self.past))
 
     def step(self, deep=0):
-        words = ["go"] * 5 + ["answer"] * 4 + ["undo", "redo"] + ["try"] * (deep < 2)
+        words = ["go"] * 7 + ["answer"] * 6 * (self.now.kind == "asks") + ["answer", "undo", "redo"] + ["try"] * (deep < 2)
+        words += ["undo"] * 8 * (self.now.kind == "end")
         words += ["read", "move", "suppose", "put", "exchange"] * 2 if self.now.kind == "mark" else []
         getattr(self, self.chance.choice(words))(deep)
         self.same()
@@ -202,13 +203,13 @@ setattr(Trial, "try", Trial.trial)
 class AgainstRuns(Checks):
     def test_commands_by_chance(self):
         seen = {}
-        for prime in [2, 3, 5, 65537]:
-            for seed, stock in enumerate(woven_stock(range(45), prime, 0, 1, 0.8)):
+        for prime, seed_begins in [(2, True), (3, True), (5, True), (5, False), (65537, True)]:
+            for seed, stock in enumerate(woven_stock(range(90), prime, 0, 1, 0.7, seed_begins)):
                 chance = random.Random(seed)
                 rows = made(stock.bench.program())
                 stocks = [stock, Stock(stock.one, Engine((prime, 3, rows.units()), False), 0, 1)]
                 trial = Trial(self, chance, stocks)
-                for _ in range(25):
+                for _ in range(30):
                     trial.step()
                 for command in trial.session.log():
                     seen[command[0]] = seen.get(command[0], 0) + 1
@@ -501,6 +502,19 @@ class Point111(Checks):
         self.assertEqual((session.beats(), session.would()), ([[], [], [3]], [[], [], [4]]))
         self.assertEqual([command[0] for command in session.log()[-4:]], ["exchange", "move", "exchange", "go"])
         self.assertIs(session.log()[-4][1], there)
+
+    def test_rules_with_constants(self):
+        # These rows hold one more than the sum until it is printed.
+        rows = [("read", 0), ("read", 1), ("add", 0, 1), ("set", 1, 0), ("more", 0, 1), ("mark", "k", [("s",)]), ("more", 0, 4), ("print", 0), ("end",)]
+        more = Bench(echo(), Rows(5, 2, {"main": (0, rows)}))
+        session = self.session()
+        session.exchange(more, ("k", ()))
+        self.assertEqual((session.dump()[1]["#0"], session.read({"a": 1, "b": 1})), (4, 3))
+        session.go()
+        self.assertEqual(session.beats(), [[], [], [3]])
+        session.undo()
+        session.exchange(lone()[0], M)
+        self.assertEqual(session.dump()[1]["#0"], 3)
 
     def test_moves_ahead_stand_on_paper_then(self):
         session = self.session()

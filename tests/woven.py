@@ -148,18 +148,33 @@ class Weaver:
         self.rows[pick] = ("pick", [len(self.rows), pick + 1])
         return [("again", label, ([], body))]
 
-    def stock(self, most, numbers):
-        body = ([], self.block(1, 4))
+    def begin(self):
+        """Numbers to begin with, perhaps two in one box, and a constant."""
+        a, b, c = self.label(), self.label(), self.label()
+        n = self.chance.randrange(1, self.prime)
+        reads = [("read", a, "ax"), ("read", b, "bx")]
+        self.rows.append(("read", 0))
+        if self.chance.random() < 0.5:
+            reads.insert(1, ("read", self.label(), "ay"))
+            self.rows += [("read", 1), ("add", 0, 1)]
+        self.rows.append(("read", 1))
+        self.mark(c)
+        self.rows.append(("more", 1, n))
+        return reads + [("set", c, "by", {"": n})]
+
+    def stock(self, most, numbers, begins=False):
+        body = ([], (self.begin() if begins else []) + self.block(1, 4))
         shared = ["ax", "ay", "bx", "by", "w"]
         units = {"main": (0, self.rows + [("end",)])}
         return Stock(Engine((self.prime, shared, [], body), True), Engine((self.prime, 2, units), False), most, numbers)
 
 
-def woven_stock(seeds, prime, most=2, numbers=None, marks=0.6):
-    """Such stock of a prime; `numbers` tells how many numbers are tried at each read, all if it is left out."""
+def woven_stock(seeds, prime, most=2, numbers=None, marks=0.6, begins=False):
+    """Such stock of a prime; `numbers` tells how many numbers are tried at each read, all if it is left out. Programs
+    that begin with numbers, if wanted, read two first."""
     for seed in seeds:
         try:
-            yield Weaver(seed, prime, marks).stock(most, prime if numbers is None else numbers)
+            yield Weaver(seed, prime, marks).stock(most, prime if numbers is None else numbers, begins)
         except Fault:
             continue
 

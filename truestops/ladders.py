@@ -22,7 +22,8 @@ class Cut:
         return (self.passed.mark, self.passed.stop)
 
     def leads_on(self):
-        return self.passed is None and self.beat.asks()
+        """Whether, where no mark is passed, there is more to come."""
+        return self.beat.asks()
 
 
 class Part:

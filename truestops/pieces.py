@@ -43,7 +43,8 @@ def by_pieces(bench, mark, stop, stir):
 
 
 def equations_ahead(bench, mark, stop, stir):
-    """What a first piece has to show in the numbers ahead of the next true mark. What is later asks nothing of it."""
+    """What a first piece has to show in the numbers ahead of the next true mark. What is later asks nothing of it, but
+    has a due that no change meets if the stir cannot be moved."""
     variables = bench.joints.variables(stop)
     amounts = vector_of(stir, variables)
     many = len(variables)
@@ -56,16 +57,12 @@ def equations_ahead(bench, mark, stop, stir):
 
 def first_piece(bench, mark, stop, stir):
     require_piece(bench, mark, stop, stir)
-    if not is_moved(bench, mark, stop, stir):
-        return None
     equations = equations_ahead(bench, mark, stop, stir)
     return change_by(bench.rows().prime(), equations, bench.joints.holders(mark))
 
 
 def is_first_piece(bench, mark, stop, stir, value):
     require_piece(bench, mark, stop, stir)
-    if not is_moved(bench, mark, stop, stir):
-        return False
     equations = equations_ahead(bench, mark, stop, stir)
     return is_change_by(bench.rows().prime(), equations, bench.joints.holders(mark), value)
 
@@ -139,7 +136,7 @@ def carried(bench, mark, stop, stir, letters):
     way = Way(bench, (mark, stop), letters)
     if way.passed is None:
         return None
-    amounts = vector_of(stir, bench.joints.variables(stop)) + [0] * len(bench.joints.holders(mark))
+    amounts = vector_of(stir, bench.joints.variables(stop))
     variables = bench.joints.variables(way.passed.stop)
     told = []
     for at in range(len(variables)):

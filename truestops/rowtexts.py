@@ -43,8 +43,7 @@ def read_row(words):
         return (word, [read_count(at) for at in behind])
     if "stops" in kinds:
         return (word, behind[0], [read_path_words(stop) for stop in behind[1:]]) if behind else None
-    if len(behind) != len(kinds):
-        return None
+    # Parts too many or missing show when the row is written again, or is none.
     return (word,) + tuple([part if kind == "name" else read_count(part) for kind, part in zip(kinds, behind)])
 
 
@@ -66,7 +65,7 @@ def read_units(lines):
             units[name][1].append(row)
         else:
             words = line.split(" ")
-            if len(words) != 3 or words[0] != "unit" or words[1] in units:
+            if len(words) != 3 or words[0] != "unit":
                 return None
             name = words[1]
             units[name] = (read_count(words[2]), [])

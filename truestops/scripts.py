@@ -1,6 +1,6 @@
 """Scripts: lists of commands for sessions, played, trimmed, and as texts."""
 
-from truestops.benches import Bench, require_bench
+from truestops.benches import Bench
 from truestops.errors import InvalidBench, InvalidCount, InvalidScript, InvalidSession, InvalidText, StopError
 from truestops.forms import is_count
 from truestops.parsing import read_count
@@ -178,7 +178,6 @@ def end_by(bench, benches, script):
 
 
 def require_end(bench, benches, script):
-    require_bench(bench)
     require_runnable(bench)
     if not are_benches(benches):
         raise InvalidBench(benches)
@@ -191,8 +190,7 @@ def end_of(bench, benches, script):
 
 
 def copy_command(command):
-    if command[0] == "try":
-        return ("try", [copy_command(inner) for inner in command[1]])
+    # A try changes no end, so none is ever left.
     if command[0] in WITH_SUMS:
         return (command[0], {key: command[1][key] for key in sorted(command[1])})
     return command

@@ -164,8 +164,6 @@ def read_lines(bench, text):
     require_ordered(bench)
     require_text(text)
     lines = [read_line(line) for line in text.split("\n")] if text else []
-    if None in lines:
-        raise InvalidText(text)
     try:
         return Book(bench, lines)
     except InvalidLines:
