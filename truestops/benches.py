@@ -4,7 +4,6 @@ from truestops.alike import tour_of
 from truestops.engines import holders_there, is_known_sum, sum_of, vector_of
 from truestops.errors import (
     InvalidBench,
-    InvalidInputs,
     NeverPassed,
     NotAlike,
     OutOfOrder,
@@ -16,17 +15,17 @@ from truestops.errors import (
 )
 from truestops.forms import is_number
 from truestops.joints import Joints
+from truestops.lasts import last_beat
 from truestops.passings import Passings
 from truestops.programs import require_program
 from truestops.rows import require_rows
 from truestops.vectors import columns_of, meeting, product_of
-from truestops.walks import Walk
 
 
 class Bench:
     """A program and rows that never change. `passings` tells what their tour shows of the marks, `joints` how both go
     from asking to asking side by side, `told` and `known` likewise for readings, `pasts` the questions for what was,
-    `fits` the states that go on alike; all these are found out once."""
+    `lasts` the last beats of runs, `fits` the states that go on alike; all these are found out once."""
 
     def __init__(self, program, rows):
         require_program(program)
@@ -43,6 +42,7 @@ class Bench:
         self.told = {}
         self.known = {}
         self.pasts = {}
+        self.lasts = {}
         self.fits = {}
 
     def program(self):
@@ -182,33 +182,6 @@ def where_point(bench, mark, stop):
     return (mine, others)
 
 
-def walk_of(engine, inputs):
-    """The run of an engine on any inputs, or None if they do not fit."""
-    try:
-        return Walk(engine.flow, inputs)
-    except InvalidInputs:
-        return None
-
-
-def machine_at(bench, mark, inputs):
-    """The tuple of the stop, of those of a true mark, at which a run passes it in its last beat, and of the numbers of
-    the holders there; None if it does not."""
-    walk = walk_of(bench.rows(), inputs)
-    state = None if walk is None else walk.state_passed(mark)
-    if state is None:
-        return None
-    stops = bench.rows().flow.stops_of(mark)
-    return ([told for told in stops_passed(bench.program(), inputs) if told in stops][0], list(state.values()))
-
-
-def stops_passed(program, inputs):
-    """The stops that a program passes in the last beat of a run on inputs that fit. The numbers mean nothing."""
-    beat = program.beats.first()
-    for letter in inputs:
-        beat = program.beats.behind(beat.place, letter)
-    return [stop for stop, _, _ in beat.passes]
-
-
 def weighed(bench, mark, stop, told, is_mine):
     """What the holders, and 1, add up to by the factors of a list of runs to a mark, all at the stop, or all at other
     ones; None if it is no such list."""
@@ -219,10 +192,11 @@ def weighed(bench, mark, stop, told, is_mine):
     for item in told:
         if type(item) is not tuple or len(item) != 2 or not is_number(prime, item[1]):
             return None
-        found = machine_at(bench, mark, item[0])
-        if found is None or (found[0] == stop) != is_mine:
+        last = last_beat(bench, item[0])
+        holders = None if last is None else last.holders(mark)
+        if holders is None or (last.stop_of(mark) == stop) != is_mine:
             return None
-        total = [(a + item[1] * b) % prime for a, b in zip(total, found[1] + [1])]
+        total = [(a + item[1] * b) % prime for a, b in zip(total, holders + [1])]
     return total
 
 

@@ -6,16 +6,15 @@ from truestops.benches import (
     require_seat,
     require_true_mark,
     rule_for,
-    walk_of,
 )
 from truestops.engines import holders_there, require_sum, sum_of, vector_of
 from truestops.errors import InvalidSum, NeverPassed
 from truestops.forms import is_count, is_factor
 from truestops.hulls import Hull
+from truestops.lasts import last_beat
 from truestops.passings import Run
 from truestops.pasts import Past
 from truestops.vectors import added_up, basis_of, columns_of, crossing, eliminated, factors_for, product_of
-from truestops.walks import Walk
 
 
 def variables_at(bench, stop):
@@ -44,14 +43,12 @@ class Present:
 
     def run_on(self, inputs):
         """The run on any inputs if its last beat passes the mark so, else None."""
-        walk = walk_of(self.bench.rows(), inputs)
-        holders = None if walk is None else walk.state_passed(self._mark)
-        if holders is None:
-            return None
-        variables = Walk(self.bench.program().flow, inputs).state_passed(self._stop)
+        last = last_beat(self.bench, inputs)
+        holders = None if last is None else last.holders(self._mark)
+        variables = None if holders is None else last.variables(self._stop)
         if variables is None:
             return None
-        return Run(inputs, list(variables.values()), list(holders.values()))
+        return Run(inputs, variables, holders)
 
 
 class Question:
