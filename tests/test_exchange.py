@@ -8,7 +8,7 @@ from tests.beside import Beside, all_beside
 from tests.brute import Engine
 from tests.checks import Checks, bent_ones
 from tests.odd import odd_objects
-from tests.stock import Stock
+from tests.stock import Stock, chance_stock
 from tests.test_benches import bad_marks
 from tests.test_pieces import out_of_order_bench
 from tests.woven import woven_stock
@@ -177,7 +177,7 @@ class Point96(Checks):
         told = {True: 0, False: 0}
         for prime in [2, 3, 5, 65537]:
             chance = random.Random(prime)
-            for stock in woven_stock(range(50), prime, 2, 2):
+            for stock in list(woven_stock(range(50), prime, 2, 2)) + list(chance_stock(range(50), prime, 2, 2)):
                 found = Both(stock).seats(chance)
                 if found is not None:
                     one, other = found

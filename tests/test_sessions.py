@@ -7,7 +7,7 @@ from tests.brute import Engine
 from tests.checks import Checks, bent_ones, shown
 from tests.odd import odd_objects
 from tests.sessionhand import Hand
-from tests.stock import Stock
+from tests.stock import Stock, chance_stock
 from tests.test_benches import bad_marks
 from tests.test_exchange import echo, lone, pair
 from tests.test_moving import joined, some_stirs
@@ -36,6 +36,7 @@ from truestops.errors import (
 from truestops.exchange import exchange_rule, fits
 from truestops.making import made
 from truestops.programs import Program
+from truestops.rewriting import calls_opened
 from truestops.rows import Rows
 from truestops.sessions import Session, is_dump, opened, replayed
 
@@ -171,7 +172,7 @@ class Trial:
         self.come_to(self.now.moved(stir, False))
 
     def put(self, deep):
-        names = self.chance.sample(self.variables(), self.chance.randint(0, 2))
+        names = self.chance.sample(self.variables(), min(len(self.variables()), self.chance.randint(0, 2)))
         wishes = {name: self.chance.choice([0, 1, self.now.stock.prime - 1]) for name in names}
         if not self.now.can_put(names):
             self.refused(Refused, self.session.put, wishes)
@@ -216,6 +217,26 @@ class AgainstRuns(Checks):
                 self.same_again(trial)
         self.assertEqual(sorted(seen), ["answer", "exchange", "go", "move", "put", "suppose"])
         self.assertGreater(min(seen.values()), 30)
+
+    def test_commands_by_chance_where_there_are_calls(self):
+        many = 0
+        for prime in [2, 5]:
+            for seed, stock in enumerate(chance_stock(range(120), prime, 0, 1)):
+                if stock.bench.passings.true_seats() and self.is_runnable(stock.bench):
+                    rows = made(stock.bench.program())
+                    stocks = [stock] + [Stock(stock.one, Engine((prime, 3, told.units()), False), 0, 1) for told in [rows, calls_opened(rows)]]
+                    trial = Trial(self, random.Random(seed), stocks)
+                    for _ in range(20):
+                        trial.step()
+                    many += 1
+        self.assertGreater(many, 60)
+
+    def is_runnable(self, bench):
+        try:
+            Session(bench)
+        except (Stray, Uneven, OutOfOrder):
+            return False
+        return True
 
     def same_again(self, trial):
         session = trial.session

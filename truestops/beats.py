@@ -6,7 +6,7 @@ number, then that of 1. The numbers themselves, in this order, are the beat's in
 """
 
 from truestops.vectors import added_up
-from truestops.walks import PASSES, PRINTS, SETS, asked_by, stretch_from
+from truestops.walks import COPIES, ECHOES, PASSES, PRINTS, SETS, asked_by, stretch_from
 
 
 def branches(asked):
@@ -68,9 +68,6 @@ class BeatMaker:
         self.width = width
 
     def sum_of(self, constant, more):
-        # Most sums are what one holder holds. Vectors are never changed, so they may be one and the same.
-        if len(more) == 1 and constant == 0 and more[0][1] == 1:
-            return self.vectors[more[0][0]]
         vectors = [self.vectors[name] for name, _ in more]
         total = added_up(self.flow.modulus, vectors, [factor for _, factor in more], self.width)
         total[-1] = (total[-1] + constant) % self.flow.modulus
@@ -79,17 +76,23 @@ class BeatMaker:
     def made(self, key):
         prints = []
         passes = []
+        vectors = self.vectors
+        # Vectors are never changed, so what is copied may be one and the same.
         for kind, told, constant, more in self.stretch.steps:
-            if kind == SETS:
-                self.vectors[told] = self.sum_of(constant, more)
+            if kind == COPIES:
+                vectors[told] = vectors[more]
+            elif kind == PASSES:
+                passes.append((told, [vectors[holder] for holder in more], len(prints)))
+            elif kind == SETS:
+                vectors[told] = self.sum_of(constant, more)
+            elif kind == ECHOES:
+                prints.append(vectors[more])
             elif kind == PRINTS:
                 prints.append(self.sum_of(constant, more))
-            elif kind == PASSES:
-                passes.append((told, [self.vectors[holder] for holder in more], len(prints)))
             else:
                 for holder in more:
-                    self.vectors[holder] = [0] * self.width
-        after = [self.vectors[holder] for holder in self.flow.living(self.stretch.place)]
+                    vectors[holder] = [0] * self.width
+        after = [vectors[holder] for holder in self.flow.living(self.stretch.place)]
         return Beat(key, self.width - 2, self.stretch, prints, passes, after)
 
 

@@ -4,7 +4,7 @@ Points are those of a program's flow, so that the same walks and beats go by bot
 """
 
 from truestops.rowforms import CHANGING, LEADING_ON, each_row
-from truestops.walks import BEGINS, PASSES, PRINTS, SETS, holders_with_factors
+from truestops.walks import BEGINS, COPIES, ECHOES, PASSES, SETS, deed_of_sum
 
 
 BOXES = ("#0", "#1", "#2", "#3")
@@ -119,22 +119,21 @@ class RowFlow:
             return [place] + way, [(BEGINS, None, None, self._living[()])] + steps
         way = [place]
         steps = []
-        row = self.row(place)
+        path, unit, at = place
+        row = self._units[unit][1][at]
         while row[0] not in ("read", "pick", "end"):
-            path, unit, at = place
             if row[0] in LEADING_ON:
                 steps.append(self._deed_of(path, row))
-                place = (path, unit, at + 1)
+                at += 1
             elif row[0] == "go":
-                place = (path, unit, row[1])
+                at = row[1]
             elif row[0] == "call":
-                path = path + (row[2],)
+                path, unit, at = path + (row[2],), row[1], 0
                 steps.append((BEGINS, None, None, self._frame(path)))
-                place = (path, row[1], 0)
             else:
-                place = self._returns[path]
-            way.append(place)
-            row = self.row(place)
+                path, unit, at = self._returns[path]
+            way.append((path, unit, at))
+            row = self._units[unit][1][at]
         return way, steps
 
     def _deed_of(self, path, row):
@@ -144,10 +143,10 @@ class RowFlow:
         key = (len(path), row)
         if key not in self._deeds:
             if row[0] == "print":
-                self._deeds[key] = (PRINTS, None, 0, [(name_of_box(row[1]), 1)])
+                self._deeds[key] = (ECHOES, None, 0, name_of_box(row[1]))
             else:
                 holder, wanted = change_of(self.modulus, row, len(path))
-                self._deeds[key] = (SETS, holder, wanted.get("", 0), holders_with_factors(wanted))
+                self._deeds[key] = deed_of_sum(SETS, COPIES, holder, wanted)
         return self._deeds[key]
 
     def _frame(self, path):

@@ -10,6 +10,9 @@ SETS = 0
 PRINTS = 1
 BEGINS = 2
 PASSES = 3
+# As SETS and PRINTS, of sums that are just what one holder holds.
+COPIES = 4
+ECHOES = 5
 
 
 def reckoned(modulus, wanted, numbers):
@@ -23,13 +26,21 @@ def holders_with_factors(wanted):
     return list(wanted.items())
 
 
+def deed_of_sum(kind, plain, holder, wanted):
+    """What is done with a sum: of a kind, or of a plain one where the sum is what one holder holds."""
+    more = holders_with_factors(wanted)
+    if len(wanted) == 1 and more and more[0][1] == 1:
+        return (plain, holder, 0, more[0][0])
+    return (kind, holder, wanted.get("", 0), more)
+
+
 def deed_of(flow, place, point):
     """What a point does, with what that takes; None for one that does nothing to the numbers of what lives on."""
     word = point[0]
     if word == "set":
-        return (SETS, point[1], point[2].get("", 0), holders_with_factors(point[2]))
+        return deed_of_sum(SETS, COPIES, point[1], point[2])
     if word == "print":
-        return (PRINTS, None, point[1].get("", 0), holders_with_factors(point[1]))
+        return deed_of_sum(PRINTS, ECHOES, None, point[1])
     if word == "pass":
         return (PASSES, point[1], None, flow.living(place))
     if word == "live" and point[1]:
@@ -103,7 +114,11 @@ def do(modulus, deeds, numbers):
     """Makes deeds, none of which passes anything, and returns what they print."""
     printed = []
     for kind, holder, total, more in deeds:
-        if kind == BEGINS:
+        if kind == COPIES:
+            numbers[holder] = numbers[more]
+        elif kind == ECHOES:
+            printed.append(numbers[more])
+        elif kind == BEGINS:
             for name in more:
                 numbers[name] = 0
         else:
