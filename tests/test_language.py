@@ -23,7 +23,7 @@ BUILTINS = set(
 METHODS = set(
     "append clear copy count endswith extend find get index insert isalnum isalpha isdigit islower isspace isupper items join keys "
     "ljust lower lstrip partition pop remove replace reverse rfind rjust rpartition rsplit rstrip setdefault split splitlines "
-    "startswith strip update upper values zfill bit_length".split()
+    "startswith strip update upper values zfill bit_length isascii".split()
 )
 ATTRIBUTES = set("count index title find get join lower upper split strip copy add".split())
 NEVER = set("register mro elements open input law version_info with_traceback add_note".split())

@@ -1,12 +1,19 @@
 """The small forms that all modules ask for: numbers, names, letters, vectors."""
 
-from math import isqrt
+from math import gcd
 
 from truestops.errors import InvalidPrime
 
 GREATEST_PRIME = 65537
 LONGEST_NAME = 8
 SMALL_LETTERS = "abcdefghijklmnopqrstuvwxyz"
+SMALL_PRIMES = (
+    2, 3, 5, 7, 11, 13, 17, 19, 23, 29, 31, 37, 41, 43, 47, 53, 59, 61, 67, 71, 73, 79, 83, 89, 97, 101, 103,
+    107, 109, 113, 127, 131, 137, 139, 149, 151, 157, 163, 167, 173, 179, 181, 191, 193, 197, 199, 211, 223,
+    227, 229, 233, 239, 241, 251,
+)
+# The product of all these: up to the greatest prime, what has none of them in it is a prime.
+SMALL_PRODUCT = 64266330917908644872330635228106713310880186591609208114244758680898150367880703152525200743234420230
 
 
 def is_count(value):
@@ -17,7 +24,7 @@ def is_count(value):
 def is_name(value):
     if type(value) is not str or not 1 <= len(value) <= LONGEST_NAME:
         return False
-    return all([sign in SMALL_LETTERS for sign in value])
+    return value.isascii() and value.isalpha() and value.islower()
 
 
 def name_by_count(count):
@@ -37,12 +44,7 @@ def is_names(value):
 def is_prime(value):
     if type(value) is not int or not 2 <= value <= GREATEST_PRIME:
         return False
-    if value % 2 == 0:
-        return value == 2
-    for divisor in range(3, isqrt(value) + 1, 2):
-        if value % divisor == 0:
-            return False
-    return True
+    return value in SMALL_PRIMES or gcd(value, SMALL_PRODUCT) == 1
 
 
 def require_prime(prime):

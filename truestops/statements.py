@@ -1,6 +1,6 @@
 """The forms of statements, blocks and procedures, and copies of them."""
 
-from truestops.forms import is_factor, is_name, is_names
+from truestops.forms import is_name, is_names
 
 PARTS_BEHIND_LABEL = {"read": 1, "set": 2, "print": 1, "pick": 1, "again": 1, "call": 3, "pass": 0}
 FEWEST_ARMS = 2
@@ -8,9 +8,12 @@ MOST_ARMS = 4
 
 
 def is_sum_of_names(prime, value):
-    if type(value) is not dict or not all([key == "" or is_name(key) for key in value]):
+    if type(value) is not dict:
         return False
-    return all([is_factor(prime, factor) for factor in value.values()])
+    for key, factor in value.items():
+        if type(factor) is not int or not 0 < factor < prime or not (key == "" or is_name(key)):
+            return False
+    return True
 
 
 def are_sums_of_names(prime, value):
