@@ -46,7 +46,7 @@ class Beside:
                 found += list(zip(numbers[begin:many], printed[begin:many]))
                 begin = many
                 first = at == 0 and mark == self.mark
-                found += self.read(mark, state, passed, (change, stir) if first else ({}, {}))
+                found += self.read(mark, state, passed, (change if first else {}, stir if at == 0 else {}))
             found += list(zip(numbers[begin:], printed[begin:]))
         return found
 
@@ -55,8 +55,9 @@ class Beside:
         for _, told, stop, wanted, rule in self.readings:
             states = [here for where, here, _ in passed if where == stop]
             if told == mark and states:
-                # What is passed is noted ahead of being stirred.
-                found.append((self.worth(rule, state, raised[0]), self.worth(wanted, states[0], raised[1])))
+                # What is passed is noted ahead of being stirred; other marks may have the stop of this one.
+                stir = raised[1] if stop == self.stop else {}
+                found.append((self.worth(rule, state, raised[0]), self.worth(wanted, states[0], stir)))
         return found
 
     def worth(self, wanted, state, raised):

@@ -58,10 +58,13 @@ class ByHand:
         mine, theirs = self.run(letters, moves)
         printed = [("printed", a, b) for a, b in zip(theirs.beats[-1], mine.beats[-1])]
         found, begin = [], 0
-        states = dict(mine.left)
+        marks = [mark for mark, _, _ in theirs.passed]
         for (mark, _, many), (_, state) in zip(theirs.passed, theirs.left):
             found += printed[begin:many]
             begin = many
+            # Where marks share a stop, what is moved at a later one is not yet moved at this one.
+            by_now = [move for move in moves if move[2] < len(letters) or marks.index(self.lines[move[0]][1]) <= marks.index(mark)]
+            states = dict(self.run(letters, by_now)[0].left)
             for at, line in enumerate(self.lines):
                 if line[0] == "read" and line[1] == mark and line[2] in states:
                     found.append(("read", at, self.worth(line[4], state), self.worth(line[3], states[line[2]])))

@@ -220,7 +220,9 @@ class Point76(Checks):
                             right.append(change)
                         seen.add((change in right, shows))
                     self.assertEqual(bool(right), by_pieces(*args))
-        self.assertEqual(seen, {(True, True), (False, False)})
+        # What is right in few letters may be wrong behind more of them.
+        self.assertGreaterEqual(seen, {(True, True), (False, False)})
+        self.assertNotIn((True, False), seen)
 
     def test_plain_ones(self):
         self.assertEqual(first_piece(parted(), M, ("s",), {"u": 2}), {"#0": 2})
