@@ -5,7 +5,6 @@ is told by vectors of factors: those of the holders that live where it begins, a
 number, then that of 1. The numbers themselves, in this order, are the beat's inlet.
 """
 
-from truestops.vectors import added_up
 from truestops.walks import COPIES, ECHOES, PASSES, PRINTS, SETS, asked_by, stretch_from
 
 
@@ -68,10 +67,15 @@ class BeatMaker:
         self.width = width
 
     def sum_of(self, constant, more):
-        vectors = [self.vectors[name] for name, _ in more]
-        total = added_up(self.flow.modulus, vectors, [factor for _, factor in more], self.width)
-        total[-1] = (total[-1] + constant) % self.flow.modulus
-        return total
+        total = [0] * self.width
+        total[-1] = constant
+        for name, factor in more:
+            if factor == 1:
+                total = [a + b for a, b in zip(total, self.vectors[name])]
+            else:
+                total = [a + factor * b for a, b in zip(total, self.vectors[name])]
+        modulus = self.flow.modulus
+        return [number % modulus for number in total]
 
     def made(self, key):
         prints = []
