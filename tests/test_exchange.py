@@ -156,6 +156,25 @@ class Point95(Checks):
                     self.assertTrue(fits(seat_of(beside), mixed))
                     self.assertTrue(fits(seat_of(beside), dict(reversed(mixed.items()))))
 
+    def test_states_bent_in_one_number(self):
+        # Here even the first run has numbers that are not 0.
+        told = {True: 0, False: 0}
+        for prime in [3, 5]:
+            chance = random.Random(prime)
+            for stock in woven_stock(range(60), prime, 3, 2, 0.6, True):
+                for beside in all_beside(stock):
+                    _, variables, holders = chance.choice(beside.runs)
+                    state = dict(zip(beside.variables, variables)) | dict(zip(beside.holders, holders))
+                    for name in chance.sample(sorted(state), 3):
+                        bent = {**state, name: (state[name] + 1) % prime}
+                        fine = fits(seat_of(beside), bent)
+                        program_part = {own: bent[own] for own in beside.variables}
+                        mixed = is_mixture(stock.bench.program(), beside.stop, program_part)
+                        alike = mixed and goes_on_alike(beside, bent, 3)
+                        self.assertEqual(fine, alike and (fine or goes_on_alike(beside, bent, 7)))
+                        told[fine] += 1
+        self.assertGreater(min(told.values()), 50)
+
     def test_plain_ones(self):
         for prime in [2, 3, 5, 65537]:
             self.assertTrue(fits(lone(prime), {"#0": 1, "#1": 1, "a": 1, "b": 0}))
@@ -377,6 +396,14 @@ class Point98(Checks):
             if bent not in [("ahead", lots[::-1], [], 0), ("ahead", lots + lots[:1], [], 0)]:
                 self.assertFalse(is_why_no_exchange(here, there, links, bent), bent)
         self.assertFalse(is_why_no_exchange(here, there, links, ("ahead", [({"#0": 2, "#1": 0, "a": 1, "b": 0}, 1), ({"#0": 2, "#1": 0, "a": 0, "b": 1}, 4)], [], 0)))
+
+    def test_factors_have_to_add_up_to_nothing(self):
+        here, there, links = lone(2), next_one(2), {"x": {"a": 1}}
+        one, other = [{"#0": 0, "#1": 0, "a": n, "b": n} for n in (1, 0)]
+        self.assertTrue(is_why_no_exchange(here, there, links, ("ahead", [(one, 1), (other, 1)], [], 0)))
+        self.assertFalse(is_why_no_exchange(here, there, links, ("ahead", [(one, 1)], [], 0)))
+        # A rule may have a constant, so states of one kind alone show nothing.
+        self.assertFalse(is_why_no_exchange(lone(3), next_one(3), links, ("ahead", [({**one, "b": 2}, 1), ({**one, "b": 2}, 1)], [], 0)))
 
     def test_papers_from_behind(self):
         # The other rows print one box twice, where the linked program prints two numbers.

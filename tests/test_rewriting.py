@@ -410,6 +410,8 @@ class Point53(Against):
         # Box 1 is added once, and four times more: of five nothing is left.
         turned = main_of(("read", 1), ("more", 1, 1), ("add", 0, 1), ("times", 1, 4), ("add", 0, 1), ("print", 0), END)
         self.assertEqual((turned.prime(), idle_rows(turned)), (5, [("main", 1)]))
+        twice = [("read", 1), ("more", 1, 1), ("add", 0, 1), ("add", 0, 1), ("print", 0), END]
+        self.assertEqual([idle_rows(main_of(*twice)), idle_rows(main_of(*twice, prime=2))], [[], [("main", 1)]])
         kept = main_of(("read", 1), ("more", 1, 1), ("add", 0, 1), ("times", 1, 3), ("add", 0, 1), ("print", 0), END)
         self.assertEqual(idle_rows(kept), [])
 
