@@ -182,6 +182,13 @@ class Point95(Checks):
         self.assertTrue(fits(lone(), {"#0": 3, "#1": 4, "a": 1, "b": 2}))
         self.assertFalse(fits(pair(), {"#0": 0, "#1": 2, "a": 1, "b": 2}))
         self.assertTrue(fits(pair(), {"#0": 0, "#1": 3, "a": 1, "b": 2}))
+        # Rows that hold one more than the sum until it is printed.
+        rows = [("read", 0), ("read", 1), ("add", 0, 1), ("set", 1, 0), ("more", 0, 1), ("mark", "m", [("s",)]), ("more", 0, 4), ("print", 0), ("end",)]
+        more = (Bench(echo(), Rows(5, 2, {"main": (0, rows)})), M, S)
+        self.assertEqual([fits(more, {"#0": n, "#1": 2, "a": 1, "b": 2}) for n in range(5)], [False, False, False, False, True])
+        self.assertEqual(exchange_rule(lone(), more, None)["#0"], {"": 1, "#0": 1})
+        self.assertEqual(exchange_rule(more, lone(), None)["#0"], {"": 4, "#0": 1})
+        self.assertEqual(sure_rule(more, {"a": 1, "b": 1}), {"": 4, "#0": 1})
         # The program's part has to be a mixture of what it comes to: here y is always 0, whatever prints alike.
         program = Program(5, ["x", "y"], [], ([], [("read", "a", "x"), ("pass", "s"), ("print", "b", {"x": 1})]))
         seat = (Bench(program, Rows(5, 1, {"main": (0, [("read", 0), ("mark", "m", [("s",)]), ("print", 0), ("end",)])})), M, S)
