@@ -90,7 +90,7 @@ class Ladders:
         self.joints = joints
         self.modulus = joints.modulus
         self.steps = []
-        # What of the seats and of the pairs of asking places is led on to by which cuts of which places.
+        # By seats and by pairs of asking places: what comes behind each, and what leads to it.
         self._cuts = {}
         self._leads = {}
         self._parts = {}

@@ -28,8 +28,9 @@ def stops_some_run_passes(bench):
     """The ascending list of the stops of a bench's program that some run passes."""
     found = {}
     for going in bench.passings.tour.goings:
-        for stop, _, _ in going.turns[0].beat.passes:
-            found[stop] = True
+        if going.fresh:
+            for stop, _, _ in going.turns[0].beat.passes:
+                found[stop] = True
     return sorted(found)
 
 
