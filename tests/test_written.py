@@ -222,6 +222,18 @@ class Point123(WrittenAndRead):
         bad = ["", "m in -", "m in -:", "m in -: ", "m in -:-", "m in -: #0", "m in -: #0 = 01", "m in -: #0 = 1 #0", "m in -: #1 = 0; #0 = 0", "m in -: #0 = 0; #0 = 0", "m in -: x = 0", "-: -", "m: -", "m in -: -: -", "m in -: #0 = ", "m in -: #0 = -1"]
         self.refused_all(InvalidText, bad, read_dump, None, at=0)
 
+    def test_sums_of_rules_have_no_factor_0(self):
+        bad = ["#0 = 0 #1", "#0 = 0 #0", "#0 = 0 @0.1 + 3", "#0 = 1 #0 + 0 #1", "#0 = 0 #0 + 1 #1", "#0 = 0; #1 = 0 #0", "#0 = 0 #0; #1 = 0", "@0.1 = 0 @0.1", "#0 = 1 #0 + 0", "#0 = 0 + 1"]
+        self.refused_all(InvalidText, bad, read_exchange, None, at=0)
+        bad = [{"#0": {"#1": 0}}, {"#0": {"#0": 1, "#1": 0}}, {"#0": {"#0": 0, "#1": 1}}, {"#0": {}, "#1": {"@0.1": 0, "": 3}}, {"#1": {"#0": 0}, "#0": {}}, {"@0.1": {"@0.1": 0}}, {"#0": {"": 0}}, {"#0": {"#0": 1, "": 0}}]
+        self.refused_all(InvalidRule, bad, exchange_text, None, at=0)
+
+    def test_noughts_stay_elsewhere(self):
+        self.there_and_back(exchange_text, read_exchange, {"#0": {}, "@0.1": {}}, "#0 = 0; @0.1 = 0")
+        self.there_and_back(exchange_text, read_exchange, {"#0": {"#0": 1}}, "#0 = 1 #0")
+        self.there_and_back(sum_text, read_sum, {"#1": 0}, "0 #1")
+        self.there_and_back(dump_text, read_dump, (M, {"#0": 0, "#1": 0}), "m in -: #0 = 0; #1 = 0")
+
     def test_what_is_none(self):
         bad = [thing for thing in odd_objects() if thing != {}] + [{"x": {}}, {"#0": {"x": 1}}, {"#0": {"#0": -1}}, {"#0": {"#0": True}}, {"#0": {"": 0}}, {"#0": 1}, {"#0": [("#0", 1)]}, {"#00": {}}, {"@0": {}}, {"": {}}, {1: {}}]
         self.refused_all(InvalidRule, bad, exchange_text, None, at=0)

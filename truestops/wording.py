@@ -29,14 +29,18 @@ def is_row_state(value):
     return all([is_count(count) for count in value.values()])
 
 
+def is_row_sum(value):
+    """Whether any object is a sum of holders of rows, so without factors 0."""
+    if not is_written_sum(value):
+        return False
+    return all([value[key] > 0 and (key == "" or is_row_holder(key)) for key in value])
+
+
 def is_row_rule(value):
     """Whether any object leads holders of rows to sums of such."""
     if type(value) is not dict or not all([is_row_holder(holder) for holder in value]):
         return False
-    sums = list(value.values())
-    if not all([is_written_sum(wanted) for wanted in sums]):
-        return False
-    return all([key == "" or is_row_holder(key) for wanted in sums for key in wanted])
+    return all([is_row_sum(wanted) for wanted in value.values()])
 
 
 def path_words(path):
